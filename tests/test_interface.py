@@ -1,0 +1,54 @@
+"""The interface: names are defined in their files, with the parameters that the document names."""
+
+import ast
+import inspect
+import pathlib
+import unittest
+
+import tiesums
+from samples import STAR
+from tiesums import fractions, nets
+from tiesums.nets import Net
+
+FOLDER = pathlib.Path(tiesums.__file__).parent
+
+
+def defined(file, kind):
+    """What the file itself defines at its top, by name."""
+    tree = ast.parse((FOLDER / file).read_text())
+    return {row.name: row for row in tree.body if isinstance(row, kind)}
+
+
+class Interface(unittest.TestCase):
+
+    def parameters(self, function):
+        return [(one.name, one.default) for one in inspect.signature(function).parameters.values()]
+
+    def test_fractions(self):
+        self.assertLessEqual({"fraction", "total"}, set(defined("fractions.py", ast.FunctionDef)))
+        none = inspect.Parameter.empty
+        self.assertEqual(self.parameters(fractions.fraction), [("top", none), ("low", 1)])
+        self.assertEqual(self.parameters(fractions.total), [("fractions", none), ("weights", None)])
+
+    def test_net_and_its_methods_stand_in_the_file(self):
+        body = defined("nets.py", ast.ClassDef)["Net"].body
+        methods = {row.name for row in body if isinstance(row, ast.FunctionDef)}
+        wanted = {"tied", "with_watcher", "without_watcher", "with_tie", "without_tie",
+                  "__len__", "__contains__", "__eq__", "__init__"}
+        self.assertLessEqual(wanted, methods)
+
+    def test_parameters_of_net(self):
+        names = {Net: ["text"], Net.tied: ["self", "place"], Net.with_watcher: ["self", "place"],
+                 Net.without_watcher: ["self", "place"], Net.with_tie: ["self", "one", "other"],
+                 Net.without_tie: ["self", "one", "other"]}
+        for function, wanted in names.items():
+            self.assertEqual([name for name, default in self.parameters(function)], wanted)
+
+    def test_attributes_of_net_are_set_when_it_is_made(self):
+        net = nets.Net(STAR)
+        for name, kind in (("text", str), ("places", tuple), ("watchers", tuple), ("ties", tuple)):
+            self.assertIs(type(getattr(net, name)), kind)
+
+
+if __name__ == "__main__":
+    unittest.main()

@@ -1,0 +1,291 @@
+"""Those rules of the language that can be read off the package's files one by one."""
+
+import ast
+import builtins
+import pathlib
+import re
+import unittest
+import warnings
+
+import tiesums
+
+FOLDER = pathlib.Path(tiesums.__file__).parent
+FILES = sorted(path for path in FOLDER.rglob("*") if path.is_file() and "__pycache__" not in path.parts)
+
+LIBRARY = {
+    "heapq": "heappush heappop heapify heapreplace heappushpop", "math": "gcd lcm isqrt comb perm factorial",
+    "itertools": "product combinations permutations chain accumulate pairwise islice zip_longest",
+    "collections": "defaultdict",
+}
+BUILTINS = """len range enumerate zip min max sum abs sorted reversed int str bool bytes list tuple dict set frozenset
+isinstance ord repr any all divmod pow getattr hasattr setattr iter next map super property staticmethod classmethod
+Exception ValueError TypeError KeyError IndexError LookupError ZeroDivisionError ArithmeticError OverflowError
+RuntimeError NotImplementedError AttributeError StopIteration NotImplemented object""".split()
+METHODS = """append clear copy count endswith extend find get index insert isalnum isalpha isdigit islower isspace
+isupper items join keys ljust lower lstrip partition pop remove replace reverse rfind rjust rpartition rsplit rstrip
+setdefault split splitlines startswith strip update upper values zfill bit_length title capitalize swapcase casefold
+center expandtabs removeprefix removesuffix rindex isascii isdecimal isnumeric istitle isidentifier isprintable
+translate encode decode sort format add discard from_iterable maketrans""".split()
+DOUBLE = """init eq repr str len enter exit call iter lt le gt ge ne add sub mul floordiv mod pow and or xor lshift
+rshift radd rsub rmul rfloordiv rmod rand ror rxor rlshift rrshift iadd isub imul ifloordiv imod ipow iand ior ixor
+ilshift irshift neg pos invert abs bool contains getitem setitem""".split()
+NOWHERE = """register mro elements open input law version_info with_traceback add_note""".split()
+NO_NAMES = """attrgetter breakpoint builtins compile copyright credits delattr dir eval exec exit gc globals help id
+importlib license locals methodcaller os quit type vars sys""".split()
+NO_WORDS = """type typing typing_extensions enum Enum IntEnum StrEnum Flag IntFlag Generic Protocol ABC ABCMeta
+namedtuple NamedTuple TypedDict TYPE_CHECKING abstractmethod dataclass overload contextmanager""".split()
+STATEMENTS = (
+    ast.FunctionDef, ast.ClassDef, ast.ImportFrom, ast.Assign, ast.AugAssign, ast.AnnAssign, ast.If, ast.While,
+    ast.For, ast.Return, ast.Break, ast.Continue, ast.Pass, ast.Raise, ast.Assert, ast.Delete, ast.Nonlocal,
+    ast.Match, ast.With, ast.Try, ast.Expr)
+FREE_ERRORS = ("KeyError", "ZeroDivisionError", "StopIteration")
+LISTED_ERRORS = FREE_ERRORS + ("ValueError", "LookupError", "IndexError")
+
+
+def rules_of_text(text):
+    """L10, L12, L14: what the signs and the lines of a file break."""
+    lines = text.split("\n")
+    if len(text.splitlines()) > 399:
+        yield "L10", 400
+    for number, line in enumerate(lines, start=1):
+        if len(line) > 120 or "\t" in line:
+            yield "L10", number
+        if not all(" " <= sign <= "~" for sign in line):
+            yield "L14", number
+        if "_wall" in line or "_WallAttr" in line:
+            yield "L12", number
+
+
+def docstrings(tree):
+    """The nodes of all docstrings."""
+    for node in ast.walk(tree):
+        if isinstance(node, (ast.Module, ast.ClassDef, ast.FunctionDef)) and ast.get_docstring(node) is not None:
+            yield node.body[0].value
+
+
+def rules_of_module(tree):
+    """L2, L3, L16: what stands at the top of a file."""
+    imports_end = False
+    for at, row in enumerate(tree.body):
+        if isinstance(row, ast.ImportFrom):
+            own = row.module.startswith("tiesums.") and row.level == 0
+            library = row.module in LIBRARY and all(
+                one.name in LIBRARY[row.module].split() and one.asname is None for one in row.names)
+            if imports_end or not (own or library) or row.names[0].name == "*":
+                yield "L2", row.lineno
+        elif isinstance(row, (ast.FunctionDef, ast.ClassDef)):
+            imports_end = True
+        elif isinstance(row, ast.Assign):
+            imports_end = True
+            if len(row.targets) != 1 or not isinstance(row.targets[0], ast.Name):
+                yield "L3", row.lineno
+        elif not (at == 0 and isinstance(row, ast.Expr) and isinstance(row.value, ast.Constant)):
+            yield "L3", row.lineno
+
+
+def bound_names(tree):
+    """(name, line) for each name that is bound somewhere."""
+    for node in ast.walk(tree):
+        if isinstance(node, (ast.FunctionDef, ast.ClassDef)):
+            yield node.name, node.lineno
+        elif isinstance(node, ast.Name) and isinstance(node.ctx, ast.Store):
+            yield node.id, node.lineno
+        elif isinstance(node, ast.arg):
+            yield node.arg, node.lineno
+        elif isinstance(node, ast.alias):
+            yield node.asname or node.name, node.lineno
+        elif isinstance(node, ast.ExceptHandler) and node.name:
+            yield node.name, node.lineno
+
+
+def methods_of(tree):
+    """The functions that stand in a class."""
+    return [row for node in ast.walk(tree) if isinstance(node, ast.ClassDef)
+            for row in node.body if isinstance(row, ast.FunctionDef)]
+
+
+def rules_of_names(tree):
+    """L8, L12, L15, L17: names."""
+    own = {(row.name, row.lineno) for row in methods_of(tree)}
+    for name, line in bound_names(tree):
+        double = name.startswith("__")
+        if double and (name[2:-2] not in DOUBLE or (name, line) not in own):
+            yield "L8", line
+        if not re.fullmatch("_?[a-zA-Z][a-zA-Z0-9_]*|_|__[a-z]+__", name):
+            yield "L12", line
+        if name in NOWHERE or name in NO_NAMES and (name, line) not in own:
+            yield "L17", line
+        if hasattr(builtins, name) and (name, line) not in own:
+            yield "L15", line
+    for node in ast.walk(tree):
+        if isinstance(node, ast.Attribute) and (node.attr in NOWHERE or node.attr.startswith("__")):
+            if node.attr != "__init__":
+                yield "L17", node.lineno
+        if isinstance(node, ast.Name) and isinstance(node.ctx, ast.Load):
+            if hasattr(builtins, node.id) and node.id not in BUILTINS:
+                yield "L8", node.lineno
+
+
+def rules_of_functions(tree):
+    """L4, L5, L10: functions and their decorators."""
+    in_classes = methods_of(tree)
+    for node in ast.walk(tree):
+        if isinstance(node, ast.FunctionDef):
+            if node.end_lineno - node.lineno + 1 > 40:
+                yield "L10", node.lineno
+            for one in node.decorator_list:
+                plain = isinstance(one, ast.Name) and one.id in ("property", "staticmethod", "classmethod")
+                setter = isinstance(one, ast.Attribute) and one.attr == "setter"
+                if node not in in_classes or not (plain or setter):
+                    yield "L4", node.lineno
+        if isinstance(node, ast.ClassDef) and node.decorator_list:
+            yield "L5", node.lineno
+        if isinstance(node, ast.stmt) and not isinstance(node, STATEMENTS):
+            yield "L6", node.lineno
+
+
+def rules_of_values(tree):
+    """L7, L20, L27: literals, operators and strings."""
+    for node in ast.walk(tree):
+        if isinstance(node, ast.Constant) and isinstance(node.value, (float, complex)):
+            yield "L7", node.lineno
+        if isinstance(node, (ast.BinOp, ast.AugAssign)) and isinstance(node.op, (ast.Div, ast.MatMult)):
+            yield "L7", node.lineno
+        if isinstance(node, ast.Constant) and isinstance(node.value, str) and "%" in node.value:
+            yield "L27", node.lineno
+        if isinstance(node, ast.Constant) and isinstance(node.value, str) and node.value.endswith(("._", ".__")):
+            yield "L27", node.lineno
+        if isinstance(node, ast.Compare) and any(isinstance(one, (ast.Is, ast.IsNot)) for one in node.ops):
+            sides = [node.left, *node.comparators]
+            if not any(isinstance(one, ast.Constant) and one.value in (None, True, False) for one in sides):
+                yield "L20", node.lineno
+
+
+def rules_of_calls(tree, own_methods):
+    """L7, L24, L25: what is called, and what it is passed."""
+    for node in ast.walk(tree):
+        if not isinstance(node, ast.Call):
+            continue
+        if isinstance(node.func, ast.Attribute) and node.func.attr not in METHODS + own_methods + ["__init__"]:
+            yield "L25", node.lineno
+        if isinstance(node.func, ast.Name) and node.func.id in ("any", "all", "min", "max", "sum", "sorted"):
+            if any(isinstance(one, ast.GeneratorExp) for one in node.args):
+                yield "L7", node.lineno
+        if isinstance(node.func, ast.Name) and node.func.id == "frozenset":
+            yield "L24", node.lineno
+        if isinstance(node.func, ast.Attribute) and node.func.attr == "sort":
+            yield "L25", node.lineno
+
+
+def rules_of_errors(tree):
+    """L19: what is caught and what is raised."""
+    for node in ast.walk(tree):
+        if isinstance(node, ast.ExceptHandler):
+            kinds = node.type.elts if isinstance(node.type, ast.Tuple) else [node.type]
+            for kind in kinds:
+                if not isinstance(kind, ast.Name) or hasattr(builtins, kind.id) and kind.id not in LISTED_ERRORS:
+                    yield "L19", node.lineno
+        if isinstance(node, ast.Raise) and node.exc is not None:
+            if not isinstance(node.exc, ast.Call) or not isinstance(node.exc.func, ast.Name):
+                yield "L19", node.lineno
+
+
+def rules_of_words(text, tree):
+    """L17: words that do not occur but in comments and docstrings."""
+    lines = text.split("\n")
+    skipped = {number for node in docstrings(tree) for number in range(node.lineno, node.end_lineno + 1)}
+    for number, line in enumerate(lines, start=1):
+        code = line.split("#")[0]
+        if number not in skipped and set(re.findall("[A-Za-z_]+", code)) & set(NO_WORDS):
+            yield "L17", number
+
+
+def broken(text, own_methods=()):
+    """The (rule, line) of all that this text of a file breaks."""
+    tree = ast.parse(text)
+    rows = [*rules_of_text(text), *rules_of_module(tree), *rules_of_names(tree), *rules_of_functions(tree)]
+    rows += [*rules_of_values(tree), *rules_of_calls(tree, list(own_methods)), *rules_of_errors(tree)]
+    return sorted(set(rows + [*rules_of_words(text, tree)]))
+
+
+class Rules(unittest.TestCase):
+
+    def setUp(self):
+        self.texts = {path: path.read_bytes().decode("ascii") for path in FILES}
+        self.trees = {path: ast.parse(text) for path, text in self.texts.items()}
+
+    def test_files(self):
+        self.assertLessEqual(len(FILES), 100)
+        for path in FILES:
+            self.assertRegex(path.relative_to(FOLDER).as_posix(), r"^([a-z][a-z0-9_]*/)*([a-z][a-z0-9_]*|__init__|__main__)\.py$")
+            self.assertTrue((path.parent / "__init__.py").is_file())
+
+    def test_each_file_keeps_the_rules(self):
+        own_methods = [row.name for tree in self.trees.values() for row in methods_of(tree)]
+        for path, text in self.texts.items():
+            self.assertEqual(broken(text, own_methods), [], path.name)
+
+    def test_python_gives_no_warning(self):
+        for path, text in self.texts.items():
+            with warnings.catch_warnings():
+                warnings.simplefilter("error")
+                compile(text, path.name, "exec")
+
+    def test_imports_name_the_file_that_defines(self):
+        for tree in self.trees.values():
+            for row in tree.body:
+                if isinstance(row, ast.ImportFrom) and row.module.startswith("tiesums."):
+                    home = ast.parse((FOLDER.parent / (row.module.replace(".", "/") + ".py")).read_text())
+                    names = {one.name for one in home.body if isinstance(one, (ast.FunctionDef, ast.ClassDef))}
+                    names |= {one.targets[0].id for one in home.body if isinstance(one, ast.Assign)}
+                    self.assertLessEqual({one.name for one in row.names}, names)
+
+    def test_no_two_files_import_from_each_other(self):
+        needs = {path.stem: {row.module.split(".")[-1] for row in tree.body
+                             if isinstance(row, ast.ImportFrom) and row.module.startswith("tiesums.")}
+                 for path, tree in self.trees.items()}
+        while needs:
+            ready = [name for name in needs if not needs[name] & set(needs)]
+            self.assertTrue(ready, f"a ring among {sorted(needs)}")
+            needs = {name: needs[name] for name in needs if name not in ready}
+
+    def test_names_are_bound_once_at_the_top(self):
+        for path, tree in self.trees.items():
+            top = [row for row in tree.body if not isinstance(row, ast.Expr)]
+            names = [row.name for row in top if isinstance(row, (ast.FunctionDef, ast.ClassDef))]
+            names += [row.targets[0].id for row in top if isinstance(row, ast.Assign)]
+            names += [one.asname or one.name for row in top if isinstance(row, ast.ImportFrom) for one in row.names]
+            self.assertEqual(len(names), len(set(names)), path.name)
+            classes = {row.name for row in top if isinstance(row, ast.ClassDef)}
+            imports = {one.name for row in top if isinstance(row, ast.ImportFrom) for one in row.names}
+            inner = {node.arg for node in ast.walk(tree) if isinstance(node, ast.arg)}
+            inner |= {node.id for row in top if isinstance(row, (ast.FunctionDef, ast.ClassDef))
+                      for node in ast.walk(row) if isinstance(node, ast.Name) and isinstance(node.ctx, ast.Store)}
+            self.assertEqual(inner & (classes | imports), set(), path.name)
+
+
+class TheReaderOfRules(unittest.TestCase):
+
+    def test_it_finds_what_breaks_a_rule(self):
+        for rule, text in (
+                ("L2", "from os import path\n"), ("L2", "from math import sqrt\n"),
+                ("L3", "import math\n"), ("L3", "A, B = 1, 2\n"), ("L3", "print(1)\n"),
+                ("L4", "@cached\ndef f():\n    pass\n"), ("L6", "def f():\n    global a\n"),
+                ("L7", "A = 1.5\n"), ("L7", "def f(a):\n    return a / 2\n"),
+                ("L7", "def f(a):\n    return any(b for b in a)\n"), ("L8", "def f(a):\n    return chr(a)\n"),
+                ("L10", "# " + "x" * 120 + "\n"), ("L10", "def f():\n" + "    pass\n" * 40),
+                ("L10", "\n" * 400), ("L12", "A_ = 1 # _wall\n"), ("L14", "# \u00e9\n"),
+                ("L15", "def f(max):\n    pass\n"), ("L17", "def f(a):\n    return a.elements\n"),
+                ("L17", "def f(a):\n    return type(a)\n"), ("L19", "def f():\n    try:\n        pass\n"
+                                                             "    except TypeError:\n        pass\n"),
+                ("L19", "def f(a):\n    raise a\n"), ("L20", "def f(a, b):\n    return a is b\n"),
+                ("L25", "def f(a):\n    return a.hex()\n"), ("L27", "A = 'a%'\n")):
+            self.assertIn(rule, [found for found, line in broken(text)], text)
+
+    def test_it_lets_what_breaks_none(self):
+        text = '"""Some type."""\n\nfrom math import gcd\n\nONE = (1, 1)\n\n\ndef cut(a, b=2):\n    return a // gcd(a, b)\n'
+        self.assertEqual(broken(text), [])
+
+
+if __name__ == "__main__":
+    unittest.main()

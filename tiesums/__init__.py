@@ -1,0 +1,1 @@
+"""Tiesums: what each tie costs, told by sums along ways."""

@@ -7,8 +7,19 @@ import unittest
 
 import tiesums
 from samples import STAR
-from tiesums import fractions, nets
+from tiesums import blind, fractions, nets, placing, told, ways
 from tiesums.nets import Net
+
+# For each file what the interface lists in it: the functions with their parameters.
+FUNCTIONS = {
+    ways: {"ways": "net", "along": "net way", "sums": "net costs"},
+    told: {"told": "net weights", "shows_told": "net weights value", "tie_told": "net tie",
+           "shows_tie_told": "net tie value", "sure_ties": "net", "whole": "net", "shows_whole": "net value",
+           "base": "net", "shows_base": "net value"},
+    blind: {"parts": "net", "edge": "net lot", "blind": "net", "shows_blind": "net value", "bent": "net lot",
+            "shows_bent": "net lot value"},
+    placing: {"least": "net", "shows_least": "net value", "gains": "net"},
+}
 
 FOLDER = pathlib.Path(tiesums.__file__).parent
 
@@ -29,6 +40,13 @@ class Interface(unittest.TestCase):
         none = inspect.Parameter.empty
         self.assertEqual(self.parameters(fractions.fraction), [("top", none), ("low", 1)])
         self.assertEqual(self.parameters(fractions.total), [("fractions", none), ("weights", None)])
+
+    def test_functions_that_take_a_net(self):
+        for module, functions in FUNCTIONS.items():
+            self.assertLessEqual(set(functions), set(defined(pathlib.Path(module.__file__).name, ast.FunctionDef)))
+            for name, names in functions.items():
+                wanted = [(one, inspect.Parameter.empty) for one in names.split()]
+                self.assertEqual(self.parameters(getattr(module, name)), wanted)
 
     def test_net_and_its_methods_stand_in_the_file(self):
         body = defined("nets.py", ast.ClassDef)["Net"].body

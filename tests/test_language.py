@@ -38,6 +38,7 @@ STATEMENTS = (
     ast.FunctionDef, ast.ClassDef, ast.ImportFrom, ast.Assign, ast.AugAssign, ast.AnnAssign, ast.If, ast.While,
     ast.For, ast.Return, ast.Break, ast.Continue, ast.Pass, ast.Raise, ast.Assert, ast.Delete, ast.Nonlocal,
     ast.Match, ast.With, ast.Try, ast.Expr)
+USING_UP = "list tuple dict sorted sum any all enumerate zip min max".split()
 FREE_ERRORS = ("KeyError", "ZeroDivisionError", "StopIteration")
 LISTED_ERRORS = FREE_ERRORS + ("ValueError", "LookupError", "IndexError")
 
@@ -115,7 +116,8 @@ def rules_of_names(tree):
             yield "L12", line
         if name in NOWHERE or name in NO_NAMES and (name, line) not in own:
             yield "L17", line
-        if hasattr(builtins, name) and (name, line) not in own:
+        # A doctest that ran before may have left its last result there, as _.
+        if hasattr(builtins, name) and name != "_" and (name, line) not in own:
             yield "L15", line
     for node in ast.walk(tree):
         if isinstance(node, ast.Attribute) and (node.attr in NOWHERE or node.attr.startswith("__")):
@@ -177,6 +179,28 @@ def rules_of_calls(tree, own_methods):
             yield "L25", node.lineno
 
 
+def rules_of_iteration(tree):
+    """L7, L23, L24, as far as the package goes: views, sets and stars stand where they are used up at once."""
+    homes = {child: node for node in ast.walk(tree) for child in ast.iter_child_nodes(node)}
+    for node in ast.walk(tree):
+        home = homes.get(node)
+        called = node.func if isinstance(node, ast.Call) else None
+        name = called.id if isinstance(called, ast.Name) else called.attr if isinstance(called, ast.Attribute) else ""
+        taker = home.func.id if isinstance(home, ast.Call) and isinstance(home.func, ast.Name) else ""
+        looped = isinstance(home, (ast.For, ast.comprehension)) and home.iter is node
+        if name in ("zip", "enumerate", "reversed", "range", "items", "keys", "values") and not looped:
+            if taker not in USING_UP or name in ("reversed", "zip") and taker == "len":
+                yield "L23", node.lineno
+        if name == "set" or isinstance(node, ast.SetComp):
+            if taker not in ("len", "sorted") and not isinstance(home, ast.Compare):
+                yield "L24", node.lineno
+        if isinstance(node, ast.GeneratorExp):
+            yield "L7", node.lineno
+        if isinstance(node, ast.Starred) and isinstance(home, ast.Call):
+            if taker in BUILTINS and taker not in ("max", "min", "zip") or taker in LIBRARY["math"].split():
+                yield "L7", node.lineno
+
+
 def rules_of_errors(tree):
     """L19: what is caught and what is raised."""
     for node in ast.walk(tree):
@@ -205,6 +229,7 @@ def broken(text, own_methods=()):
     tree = ast.parse(text)
     rows = [*rules_of_text(text), *rules_of_module(tree), *rules_of_names(tree), *rules_of_functions(tree)]
     rows += [*rules_of_values(tree), *rules_of_calls(tree, list(own_methods)), *rules_of_errors(tree)]
+    rows += rules_of_iteration(tree)
     return sorted(set(rows + [*rules_of_words(text, tree)]))
 
 
@@ -279,6 +304,10 @@ class TheReaderOfRules(unittest.TestCase):
                 ("L17", "def f(a):\n    return type(a)\n"), ("L19", "def f():\n    try:\n        pass\n"
                                                              "    except TypeError:\n        pass\n"),
                 ("L19", "def f(a):\n    raise a\n"), ("L20", "def f(a, b):\n    return a is b\n"),
+                ("L23", "def f(a):\n    b = zip(a, a)\n    return b\n"), ("L23", "def f(a):\n    return a.items()\n"),
+                ("L24", "def f(a):\n    return set(a)\n"), ("L24", "def f(a):\n    for b in {c for c in a}:\n        pass\n"),
+                ("L7", "def f(a):\n    return tuple(b for b in a)\n"),
+                ("L7", "from math import gcd\n\n\ndef f(a):\n    return gcd(*a)\n"),
                 ("L25", "def f(a):\n    return a.hex()\n"), ("L27", "A = 'a%'\n")):
             self.assertIn(rule, [found for found, line in broken(text)], text)
 

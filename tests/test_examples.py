@@ -1,0 +1,65 @@
+"""The examples at the ends of points 6 to 9, word for word."""
+
+import doctest
+import unittest
+
+# Of the example at the end of point 5, the nets of which the others speak.
+NETS = """
+>>> from tiesums.nets import Net
+>>> star = Net('places a b c m\\nwatchers a b c\\ntie a m\\ntie b m\\ntie c m')
+>>> house = Net('places a b c p\\nwatchers a b c\\ntie a b\\ntie b c\\ntie a c\\ntie a p\\ntie b p')
+"""
+
+WAYS = """
+>>> from tiesums.ways import along, sums, ways
+>>> [ways(star), along(house, ('a', 'p', 'b', 'c')), len(ways(house)), sums(star, ((1, 1), (1, 2), (-1, 3)))]
+[(('a', 'm', 'b'), ('a', 'm', 'c'), ('b', 'm', 'c')), (1, 3, 4), 9, ((3, 2), (2, 3), (1, 6))]
+"""
+
+TOLD = """
+>>> from tiesums.told import base, shows_tie_told, sure_ties, tie_told, told, whole
+>>> tie_told(star, ('a', 'm'))
+('told', ((('a', 'm', 'b'), (1, 2)), (('a', 'm', 'c'), (1, 2)), (('b', 'm', 'c'), (-1, 2))))
+>>> [sure_ties(house), tie_told(house, ('a', 'p'))[0], whole(star)[0], whole(house)[0], len(base(house))]
+[(0, 1, 2), 'alike', 'all', 'not', 4]
+>>> cheap, dear = ((1, 1),) * 5, ((1, 1), (1, 1), (1, 1), (2, 1), (0, 1))
+>>> [shows_tie_told(house, ('a', 'p'), ('alike', cheap, dear)), told(house, ((0, 1), (0, 1), (0, 1), (2, 1), (2, 1)))[0]]
+[True, 'told']
+"""
+
+BLIND = """
+>>> from tiesums.blind import bent, blind, edge, parts, shows_bent
+>>> [blind(house), edge(house, ('p',)), blind(star), ('m',) in parts(star), len(parts(star)), shows_bent(house, ('p',), (cheap, dear))]
+[('blind', ('p',), ('a', 'b')), ('a', 'b'), ('none',), False, 10, True]
+"""
+
+PLACING = """
+>>> from tiesums.placing import gains, least
+>>> [len(least(house)[0]), len(least(house)[1]), gains(house)]
+[3, 6, (('p', (0, 1, 2, 3, 4)),)]
+"""
+
+
+class Examples(unittest.TestCase):
+
+    def check_examples(self, *texts):
+        # Some use what those ahead of them have named.
+        test = doctest.DocTestParser().get_doctest("".join(texts), {}, "examples", None, 0)
+        results = doctest.DocTestRunner(verbose=False).run(test)
+        self.assertEqual((results.failed, results.attempted), (0, "".join(texts).count(">>> ")))
+
+    def test_point_6(self):
+        self.check_examples(NETS, WAYS)
+
+    def test_point_7(self):
+        self.check_examples(NETS, TOLD)
+
+    def test_point_8(self):
+        self.check_examples(NETS, TOLD, BLIND)
+
+    def test_point_9(self):
+        self.check_examples(NETS, PLACING)
+
+
+if __name__ == "__main__":
+    unittest.main()

@@ -34,6 +34,8 @@ NO_NAMES = """attrgetter breakpoint builtins compile copyright credits delattr d
 importlib license locals methodcaller os quit type vars sys""".split()
 NO_WORDS = """type typing typing_extensions enum Enum IntEnum StrEnum Flag IntFlag Generic Protocol ABC ABCMeta
 namedtuple NamedTuple TypedDict TYPE_CHECKING abstractmethod dataclass overload contextmanager""".split()
+NO_BEGINNINGS = "_wall _WallAttr _pe_ _dcw_ _enum_ _cm_ _twin_re_ _lay_ _law_ _stub_ _sre".split()
+NO_WHOLE_NAMES = "_cold _tuplegetter _outside _record _written_out _member_names".split()
 STATEMENTS = (
     ast.FunctionDef, ast.ClassDef, ast.ImportFrom, ast.Assign, ast.AugAssign, ast.AnnAssign, ast.If, ast.While,
     ast.For, ast.Return, ast.Break, ast.Continue, ast.Pass, ast.Raise, ast.Assert, ast.Delete, ast.Nonlocal,
@@ -41,6 +43,11 @@ STATEMENTS = (
 USING_UP = "list tuple dict sorted sum any all enumerate zip min max".split()
 FREE_ERRORS = ("KeyError", "ZeroDivisionError", "StopIteration")
 LISTED_ERRORS = FREE_ERRORS + ("ValueError", "LookupError", "IndexError")
+
+
+def is_barred(name):
+    """L12: whether it is a name that none in the package may have, digits and underscores behind it or not."""
+    return name.startswith(tuple(NO_BEGINNINGS)) or name.rstrip("0123456789_") in NO_WHOLE_NAMES
 
 
 def rules_of_text(text):
@@ -53,8 +60,10 @@ def rules_of_text(text):
             yield "L10", number
         if not all(" " <= sign <= "~" for sign in line):
             yield "L14", number
-        if "_wall" in line or "_WallAttr" in line:
-            yield "L12", number
+        # What is written as an attribute or a method may begin as the first one of them, but be more than that word.
+        for ahead, name in re.findall(r"(\.|def )?\b(_\w*)", line):
+            if is_barred(name) and not (ahead and name.startswith("_wall") and name != "_wall"):
+                yield "L12", number
 
 
 def docstrings(tree):
@@ -112,7 +121,7 @@ def rules_of_names(tree):
         double = name.startswith("__")
         if double and (name[2:-2] not in DOUBLE or (name, line) not in own):
             yield "L8", line
-        if not re.fullmatch("_?[a-zA-Z][a-zA-Z0-9_]*|_|__[a-z]+__", name):
+        if not re.fullmatch("_?[a-zA-Z][a-zA-Z0-9_]*|_|__[a-z]+__", name) or is_barred(name) and (name, line) not in own:
             yield "L12", line
         if name in NOWHERE or name in NO_NAMES and (name, line) not in own:
             yield "L17", line
@@ -310,6 +319,26 @@ class TheReaderOfRules(unittest.TestCase):
                 ("L7", "from math import gcd\n\n\ndef f(a):\n    return gcd(*a)\n"),
                 ("L25", "def f(a):\n    return a.hex()\n"), ("L27", "A = 'a%'\n")):
             self.assertIn(rule, [found for found, line in broken(text)], text)
+
+    def test_it_finds_the_names_that_none_may_have(self):
+        names = "_wall _walls _WallAttr _pe_ _pe_a _dcw_b _enum_c _cm_d _twin_re_e _lay_f _law_g _stub_h _sre _srei".split()
+        for name in "_cold _tuplegetter _outside _record _written_out _member_names".split():
+            names += [name, name + "2", name + "_", name + "_1_0"]
+        for name in names:
+            for text in (f"def {name}_(a):\n    return a\n", f"{name} = 1\n", f"def f({name}):\n    return {name}\n",
+                         f"from tiesums.nets import {name}\n", f"def f(a):\n    return a(1, {name}=2)\n",
+                         f"def f(a):\n    for {name}, b in a:\n        pass\n", f"class A:\n    {name} = 1\n",
+                         f"def f(a):\n    return [{name} for {name} in a]\n", f"def f(a):\n    return f'{{{name}}}'\n"):
+                self.assertIn(("L12", text[:text.index(name)].count("\n") + 1), broken(text), text)
+            if name != "_walls":
+                self.assertIn(("L12", 2), broken(f"def f(a):\n    a.{name} = 1\n"))
+
+    def test_it_lets_names_that_are_like_these(self):
+        for name in ("_walls", "_outsides", "_recorded", "_around", "_outside_of", "_lays", "_enum", "_colder", "a_cold"):
+            self.assertEqual(broken(f"def f(a):\n    a.{name} = 1\n"), [])
+            if name != "_walls":
+                self.assertEqual(broken(f"{name} = 1\n"), [])
+        self.assertEqual(broken("class A:\n    def _walls(self):\n        return 1\n"), [])
 
     def test_it_lets_what_breaks_none(self):
         text = '"""Some type."""\n\nfrom math import gcd\n\nONE = (1, 1)\n\n\ndef cut(a, b=2):\n    return a // gcd(a, b)\n'

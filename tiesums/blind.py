@@ -24,7 +24,7 @@ def meets(lot, places):
     return any([place in lot for place in places])
 
 
-def _outside(net, lot):
+def _around(net, lot):
     """The lot of all places outside of the lot that are tied to places of it."""
     ends = [place for tie in net.ties if meets(lot, tie) for place in tie]
     return tuple([place for place in net.places if place in ends and place not in lot])
@@ -34,14 +34,14 @@ def _hangs_together(net, lot):
     reached, more = (), lot[:1]
     while len(more) > 0:
         reached = (*reached, *more)
-        more = in_sequence(lot, _outside(net, reached))
+        more = in_sequence(lot, _around(net, reached))
     return len(reached) == len(lot)
 
 
 def _is_part(net, value):
     if not is_lot(net, value) or not any([meets(value, tie) for tie in net.ties]):
         return False
-    return len(_outside(net, value)) <= 2 and _hangs_together(net, value)
+    return len(_around(net, value)) <= 2 and _hangs_together(net, value)
 
 
 def _is_blind(net, value):
@@ -57,14 +57,14 @@ def edge(net, lot):
     """The lot of the places outside of the part that are tied to places of it."""
     if not _is_part(net, lot):
         raise BadPart(lot)
-    return _outside(net, lot)
+    return _around(net, lot)
 
 
 def blind(net):
     """("blind", lot, edge) with a blind part, or ("none",)."""
     for lot in all_lots(net):
         if _is_blind(net, lot):
-            return ("blind", lot, _outside(net, lot))
+            return ("blind", lot, _around(net, lot))
     return ("none",)
 
 
@@ -74,7 +74,7 @@ def shows_blind(net, value):
         return blind(net) == ("none",)
     if not isinstance(value, tuple) or len(value) != 3 or value[0] != "blind":
         return False
-    return _is_blind(net, value[1]) and value[2] == _outside(net, value[1])
+    return _is_blind(net, value[1]) and value[2] == _around(net, value[1])
 
 
 def _need_blind(net, lot):
@@ -94,7 +94,7 @@ def _bend(lot, ends, tie):
 def bent(net, lot):
     """(costs, others): two costs that no sum tells apart, as nobody watches in this part."""
     _need_blind(net, lot)
-    ends = _outside(net, lot)
+    ends = _around(net, lot)
     return apart([_bend(lot, ends, tie) for tie in net.ties])
 
 
@@ -103,7 +103,7 @@ def shows_bent(net, lot, value):
     _need_blind(net, lot)
     if not isinstance(value, tuple) or len(value) != 2 or not are_alike(net, value[0], value[1]):
         return False
-    ends = _outside(net, lot)
+    ends = _around(net, lot)
     unlike = [tie for tie, one, other in zip(net.ties, value[0], value[1]) if one != other]
     if len(ends) == 2:
         return unlike == [tie for tie in net.ties if meets(lot, tie) and meets(ends, tie)]

@@ -168,19 +168,7 @@ def made(net, signed):
 
 def hidden(net):
     """Rows of numbers, as many as can be without one being made of others, by which all ways come to 0."""
-    # Cleared from the last one on, each row is 0 wherever another one begins.
-    rows = []
-    for at, row in reversed(_echelon_of(net.text)):
-        rows.append((at, cleared(row, rows)))
-    begins = [at for at, row in rows]
-    found = []
-    for free in [at for at in range(len(net.ties)) if at not in begins]:
-        new = [Fraction(0)] * len(net.ties)
-        new[free] = Fraction(1)
-        for at, row in rows:
-            new[at] = Fraction(-row[free], row[at])
-        found.append(new)
-    return found
+    return free_rows([row for at, row in _echelon_of(net.text)], len(net.ties))
 
 
 @functools.lru_cache(maxsize=None)
@@ -256,3 +244,77 @@ def plain_blind(net):
 def watched_by(net, lot):
     """The net in which just these places watch."""
     return net_of(net.places, lot, net.ties)
+
+
+def in_whole_numbers(row):
+    """The row of numbers, all so many times greater that they are integers."""
+    numbers = [Fraction(one) for one in row]
+    much = math.lcm(*[one.denominator for one in numbers])
+    return [int(one * much) for one in numbers]
+
+
+def is_made_of(rows, row):
+    """Whether the row of numbers is made of these rows."""
+    rows = [in_whole_numbers(one) for one in rows]
+    return rank(rows + [in_whole_numbers(row)]) == rank(rows)
+
+
+def numbers_of(fractions):
+    return [number_of(one) for one in fractions]
+
+
+def made_by(rows, numbers):
+    """What the rows make with these fractions, tie by tie, as numbers."""
+    found = [Fraction(0)] * len(rows[0]) if rows else []
+    for row, number in zip(rows, numbers, strict=True):
+        found = [one + other * number_of(number) for one, other in zip(found, row)]
+    return found
+
+
+def reading_rows(net, readings):
+    return [plain_row(net, way) for way, amount in readings]
+
+
+def some_fit(net, readings):
+    """Whether some costs fit the readings."""
+    rows = reading_rows(net, readings)
+    return rank(rows) == rank([row + [amount] for row, (way, amount) in zip(rows, readings)])
+
+
+def fits(net, readings, costs):
+    """Whether the costs, fractions, fit the readings."""
+    return all(dot(plain_row(net, way), costs) == amount for way, amount in readings)
+
+
+def tears(net, readings, numbers):
+    """Whether these numbers of the readings show that no costs fit."""
+    comes_to = sum([amount * number_of(number) for (way, amount), number in zip(readings, numbers, strict=True)])
+    return not any(made_by(reading_rows(net, readings), numbers)) and comes_to != 0
+
+
+def drawn_readings(draw, net, many, wrong=0):
+    """So many readings of drawn costs, ways perhaps several times, so many of their sums changed."""
+    costs = [draw.randint(-9, 9) for _ in net.ties]
+    found = []
+    for way in [draw.choice(plain_ways(net)) for _ in range(many)]:
+        found.append((way, sum(one * cost for one, cost in zip(plain_row(net, way), costs))))
+    for at in draw.sample(range(many), wrong):
+        found[at] = (found[at][0], found[at][1] + draw.choice([-1, 1, 10 ** 8]))
+    return tuple(found)
+
+
+def free_rows(rows, many):
+    """Rows of numbers, as many as can be without one being made of others, by which all these rows come to 0."""
+    # Cleared from the last one on, each row is 0 wherever another one begins.
+    cleared_rows = []
+    for at, row in reversed(echelon(rows)):
+        cleared_rows.append((at, cleared(row, cleared_rows)))
+    begins = [at for at, row in cleared_rows]
+    found = []
+    for free in [at for at in range(many) if at not in begins]:
+        new = [Fraction(0)] * many
+        new[free] = Fraction(1)
+        for at, row in cleared_rows:
+            new[at] = Fraction(-row[free], row[at])
+        found.append(new)
+    return found

@@ -1,13 +1,16 @@
-"""The examples at the ends of points 6 to 9, word for word."""
+"""The examples at the ends of points 5 to 13, word for word."""
 
 import doctest
 import unittest
 
-# Of the example at the end of point 5, the nets of which the others speak.
+# That of point 5 makes the nets of which the others speak.
 NETS = """
+>>> from tiesums.fractions import fraction, total
 >>> from tiesums.nets import Net
 >>> star = Net('places a b c m\\nwatchers a b c\\ntie a m\\ntie b m\\ntie c m')
 >>> house = Net('places a b c p\\nwatchers a b c\\ntie a b\\ntie b c\\ntie a c\\ntie a p\\ntie b p')
+>>> [star.ties[0], star.tied('m'), len(house), ('p', 'a') in house, house.with_watcher('p').watchers, fraction(6, -4), total(((1, 2), (1, 3)), ((1, 1), (-3, 1)))]
+[('a', 'm'), ('a', 'b', 'c'), 5, False, ('a', 'b', 'c', 'p'), (-3, 2), (-1, 2)]
 """
 
 WAYS = """
@@ -39,6 +42,29 @@ PLACING = """
 [3, 6, (('p', (0, 1, 2, 3, 4)),)]
 """
 
+FAILING = """
+>>> from tiesums.failing import blame, groups, verdict
+>>> [groups(star), groups(house), blame(star, ways(star)[:2], 1), verdict(star, ways(star), 2)]
+[((0,), (1,), (2,)), ((0,), (1,), (2,), (3, 4)), ((0,),), ((), (0, 1, 2), ())]
+"""
+
+READINGS = """
+>>> from tiesums.readings import fitting, mended, next_way, reckoned
+>>> read = tuple(zip(ways(star), (5, 6, 7)))
+>>> [reckoned(star, read, ((1, 1), (0, 1), (0, 1))), fitting(star, read), reckoned(star, read[:2], ((0, 1), (1, 1), (-1, 1)))[:2]]
+[('sure', (2, 1), ((1, 2), (1, 2), (-1, 2))), ('costs', ((2, 1), (3, 1), (4, 1))), ('sure', (-1, 1))]
+>>> twice = read + ((ways(star)[0], 6),)
+>>> [fitting(star, twice)[0], mended(star, twice)[0], next_way(star, read[:2], ((1, 1), (0, 1), (0, 1)))]
+['torn', (0,), ('way', ('b', 'm', 'c'))]
+"""
+
+CHOOSING = """
+>>> from tiesums.beside import alike, within
+>>> fewer = house.without_watcher('c')
+>>> [within(house, fewer)[0], within(fewer, house)[0], alike(house, fewer)[:2], len(within(house, fewer)[1])]
+['within', 'parts', ('parts', 1), 3]
+"""
+
 
 class Examples(unittest.TestCase):
 
@@ -47,6 +73,9 @@ class Examples(unittest.TestCase):
         test = doctest.DocTestParser().get_doctest("".join(texts), {}, "examples", None, 0)
         results = doctest.DocTestRunner(verbose=False).run(test)
         self.assertEqual((results.failed, results.attempted), (0, "".join(texts).count(">>> ")))
+
+    def test_point_5(self):
+        self.check_examples(NETS)
 
     def test_point_6(self):
         self.check_examples(NETS, WAYS)
@@ -59,6 +88,15 @@ class Examples(unittest.TestCase):
 
     def test_point_9(self):
         self.check_examples(NETS, PLACING)
+
+    def test_point_10(self):
+        self.check_examples(NETS, WAYS, FAILING)
+
+    def test_point_11(self):
+        self.check_examples(NETS, WAYS, READINGS)
+
+    def test_point_13(self):
+        self.check_examples(NETS, CHOOSING)
 
 
 if __name__ == "__main__":

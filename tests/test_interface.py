@@ -7,7 +7,7 @@ import unittest
 
 import tiesums
 from samples import STAR
-from tiesums import blind, fractions, nets, placing, told, ways
+from tiesums import beside, blind, failing, fractions, nets, placing, readings, told, ways
 from tiesums.nets import Net
 
 # For each file what the interface lists in it: the functions with their parameters.
@@ -19,6 +19,12 @@ FUNCTIONS = {
     blind: {"parts": "net", "edge": "net lot", "blind": "net", "shows_blind": "net value", "bent": "net lot",
             "shows_bent": "net lot value"},
     placing: {"least": "net", "shows_least": "net value", "gains": "net"},
+    failing: {"groups": "net", "blame": "net failed most", "verdict": "net failed most"},
+    readings: {"fitting": "net readings", "shows_fitting": "net readings value", "reckoned": "net readings weights",
+               "shows_reckoned": "net readings weights value", "mended": "net readings",
+               "shows_mended": "net readings value", "next_way": "net readings weights"},
+    beside: {"within": "one other", "shows_within": "one other value", "alike": "one other",
+             "shows_alike": "one other value"},
 }
 
 FOLDER = pathlib.Path(tiesums.__file__).parent

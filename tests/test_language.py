@@ -210,6 +210,73 @@ def rules_of_iteration(tree):
                 yield "L7", node.lineno
 
 
+def rules_of_library(tree):
+    """L2: what is imported from the library is only called, and means nothing else in the file."""
+    homes = {child: node for node in ast.walk(tree) for child in ast.iter_child_nodes(node)}
+    names = [one.name for row in tree.body if isinstance(row, ast.ImportFrom) and row.module in LIBRARY for one in row.names]
+    for node in ast.walk(tree):
+        if isinstance(node, ast.Name) and node.id in names:
+            home = homes[node]
+            if not isinstance(home, ast.Call) or home.func is not node or home.keywords:
+                yield "L2", node.lineno
+            elif node.id in LIBRARY["itertools"].split():
+                taker = homes[home]
+                looped = isinstance(taker, (ast.For, ast.comprehension)) and taker.iter is home
+                if not looped and not (isinstance(taker, ast.Call) and getattr(taker.func, "id", "") in USING_UP):
+                    yield "L2", node.lineno
+        if isinstance(node, ast.arg) and node.arg in names:
+            yield "L2", node.lineno
+
+
+def is_simple(node):
+    """L6: a name, an attribute of a name, or a literal, as the rows of __exit__ may assign."""
+    if isinstance(node, ast.Attribute):
+        return isinstance(node.value, ast.Name)
+    return isinstance(node, (ast.Name, ast.Constant))
+
+
+def is_row_of_exit(row):
+    if isinstance(row, ast.If):
+        asked = [node for node in ast.walk(row.test) if isinstance(node, (ast.Call, ast.Subscript, ast.BinOp))]
+        return not asked and all(is_row_of_exit(one) for one in row.body + row.orelse)
+    return isinstance(row, ast.Pass) or isinstance(row, ast.Assign) and is_simple(row.targets[0]) and is_simple(row.value)
+
+
+def rules_of_blocks(tree):
+    """L6, L7: with, __exit__ and :=, as far as the package goes."""
+    homes = {child: node for node in ast.walk(tree) for child in ast.iter_child_nodes(node)}
+    for node in ast.walk(tree):
+        if isinstance(node, ast.With):
+            if not all(isinstance(one.context_expr, (ast.Call, ast.Name, ast.Attribute)) for one in node.items):
+                yield "L6", node.lineno
+        if isinstance(node, ast.FunctionDef) and node.name == "__exit__":
+            if not all(is_row_of_exit(row) for row in node.body):
+                yield "L6", node.lineno
+            # What left the block is not read, only whether something did.
+            for name in [one for one in ast.walk(node) if isinstance(one, ast.Name) and isinstance(one.ctx, ast.Load)]:
+                if name.id in [one.arg for one in node.args.args[2:]] or name.id == node.args.args[1].arg and not (
+                        isinstance(homes[name], ast.Compare) and isinstance(homes[name].ops[0], (ast.Is, ast.IsNot))):
+                    yield "L6", name.lineno
+        if isinstance(node, ast.NamedExpr):
+            home = node
+            while isinstance(homes[home], ast.expr):
+                home = homes[home]
+            if not isinstance(homes[home], (ast.If, ast.While)) or homes[home].test is not home:
+                yield "L7", node.lineno
+
+
+def rules_of_classes(tree):
+    """L18: no name is a method and an attribute in one class."""
+    for node in ast.walk(tree):
+        if isinstance(node, ast.ClassDef):
+            methods = [row.name for row in node.body if isinstance(row, ast.FunctionDef)]
+            if len(methods) != len(set(methods)):
+                yield "L18", node.lineno
+            for one in ast.walk(node):
+                if isinstance(one, ast.Attribute) and isinstance(one.ctx, ast.Store) and one.attr in methods:
+                    yield "L18", one.lineno
+
+
 def rules_of_errors(tree):
     """L19: what is caught and what is raised."""
     for node in ast.walk(tree):
@@ -238,7 +305,7 @@ def broken(text, own_methods=()):
     tree = ast.parse(text)
     rows = [*rules_of_text(text), *rules_of_module(tree), *rules_of_names(tree), *rules_of_functions(tree)]
     rows += [*rules_of_values(tree), *rules_of_calls(tree, list(own_methods)), *rules_of_errors(tree)]
-    rows += rules_of_iteration(tree)
+    rows += [*rules_of_iteration(tree), *rules_of_library(tree), *rules_of_blocks(tree), *rules_of_classes(tree)]
     return sorted(set(rows + [*rules_of_words(text, tree)]))
 
 
@@ -317,6 +384,17 @@ class TheReaderOfRules(unittest.TestCase):
                 ("L24", "def f(a):\n    return set(a)\n"), ("L24", "def f(a):\n    for b in {c for c in a}:\n        pass\n"),
                 ("L7", "def f(a):\n    return tuple(b for b in a)\n"),
                 ("L7", "from math import gcd\n\n\ndef f(a):\n    return gcd(*a)\n"),
+                ("L2", "from math import gcd\n\n\ndef f(a):\n    return [gcd, a]\n"),
+                ("L2", "from math import gcd\n\n\ndef f(gcd):\n    return gcd(1, 2)\n"),
+                ("L2", "from itertools import combinations\n\n\ndef f(a):\n    b = combinations(a, 2)\n    return b\n"),
+                ("L6", "class A:\n    def __exit__(self, kind, value, trace):\n        self.shut(1)\n"),
+                ("L6", "class A:\n    def __exit__(self, kind, value, trace):\n        self.kind = value\n"),
+                ("L6", "class A:\n    def __exit__(self, kind, value, trace):\n        if kind:\n            pass\n"),
+                ("L6", "class A:\n    def __exit__(self, kind, value, trace):\n        self.a, self.b = 1, 2\n"),
+                ("L6", "def f(a):\n    with a[0] as b:\n        return b\n"),
+                ("L7", "def f(a):\n    b = (c := a) + 1\n    return b + c\n"),
+                ("L7", "def f(a):\n    while a:\n        return (c := a)\n"),
+                ("L18", "class A:\n    def b(self):\n        self.b = 1\n"),
                 ("L25", "def f(a):\n    return a.hex()\n"), ("L27", "A = 'a%'\n")):
             self.assertIn(rule, [found for found, line in broken(text)], text)
 

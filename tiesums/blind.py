@@ -5,13 +5,57 @@ from tiesums.nets import in_sequence
 from tiesums.rows import apart
 from tiesums.ways import are_alike
 
+MOST_AROUND = 2
 
-def all_lots(net):
-    """All lots of places of the net, () among them, ascending."""
-    lots = [()]
-    for place in net.places:
-        lots = lots + [(*lot, place) for lot in lots]
-    return sorted(lots)
+
+class Plan:
+    """Lots of places of a net as masks, integers with a bit for each place, so that many can be asked after."""
+
+    def __init__(self, net):
+        self.places = net.places
+        self.bits = {place: 1 << at for at, place in enumerate(net.places)}
+        self.near = {place: 0 for place in net.places}
+        for one, other in net.ties:
+            self.near[one] |= self.bits[other]
+            self.near[other] |= self.bits[one]
+
+    def lots(self, places):
+        """(lot, mask) for all lots of some places, in sequence, () among them, ascending."""
+        found = [((), 0)]
+        for place in places:
+            found = found + [((*lot, place), mask | self.bits[place]) for lot, mask in found]
+        return sorted(found)
+
+    def parts(self, places):
+        """(lot, mask) for all parts that have some of these places alone, ascending."""
+        return [(lot, mask) for lot, mask in self.lots(places) if self.is_part(lot, mask)]
+
+    def around(self, lot, mask):
+        """The places outside of the lot that are tied to places of it, as a mask."""
+        near = 0
+        for place in lot:
+            near |= self.near[place]
+        return near & ~mask
+
+    def is_part(self, lot, mask):
+        """Whether the lot is a part."""
+        more = self.around(lot, mask)
+        # Twice without its lowest bit: what is left are the places behind the first two.
+        for _ in range(MOST_AROUND):
+            more &= more - 1
+        if more != 0:
+            return False
+        return any([self.near[place] != 0 for place in lot]) and self._hangs_together(lot, mask)
+
+    def _hangs_together(self, lot, mask):
+        # From the first place of the lot to all that ties among its places lead to.
+        reached, more = 0, self.bits[lot[0]]
+        while more != reached:
+            reached = more
+            for place in lot:
+                if self.bits[place] & more:
+                    more |= self.near[place] & mask
+        return reached == mask
 
 
 def is_lot(net, value):
@@ -30,18 +74,11 @@ def _around(net, lot):
     return tuple([place for place in net.places if place in ends and place not in lot])
 
 
-def _hangs_together(net, lot):
-    reached, more = (), lot[:1]
-    while len(more) > 0:
-        reached = (*reached, *more)
-        more = in_sequence(lot, _around(net, reached))
-    return len(reached) == len(lot)
-
-
 def _is_part(net, value):
-    if not is_lot(net, value) or not any([meets(value, tie) for tie in net.ties]):
+    if not is_lot(net, value):
         return False
-    return len(_around(net, value)) <= 2 and _hangs_together(net, value)
+    plan = Plan(net)
+    return plan.is_part(value, sum([plan.bits[place] for place in value]))
 
 
 def _is_blind(net, value):
@@ -50,7 +87,7 @@ def _is_blind(net, value):
 
 def parts(net):
     """The ascending tuple of all parts."""
-    return tuple([lot for lot in all_lots(net) if _is_part(net, lot)])
+    return tuple([lot for lot, mask in Plan(net).parts(net.places)])
 
 
 def edge(net, lot):
@@ -62,10 +99,11 @@ def edge(net, lot):
 
 def blind(net):
     """("blind", lot, edge) with a blind part, or ("none",)."""
-    for lot in all_lots(net):
-        if _is_blind(net, lot):
-            return ("blind", lot, _around(net, lot))
-    return ("none",)
+    found = Plan(net).parts([place for place in net.places if place not in net.watchers])
+    if len(found) == 0:
+        return ("none",)
+    lot, _ = found[0]
+    return ("blind", lot, _around(net, lot))
 
 
 def shows_blind(net, value):

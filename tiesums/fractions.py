@@ -25,16 +25,19 @@ def are_fractions(value):
     return isinstance(value, tuple) and all([is_fraction(one) for one in value])
 
 
+def cut(top, low):
+    """The fraction that is one integer divided by another one, at least 1."""
+    divisor = gcd(top, low)
+    return (top // divisor, low // divisor)
+
+
 def fraction(top, low=1):
     """The fraction that is top divided by low."""
     if not is_integer(top):
         raise BadNumber(top)
     if not is_integer(low) or low == 0:
         raise BadNumber(low)
-    divisor = gcd(top, low)
-    if low < 0:
-        divisor = -divisor
-    return (top // divisor, low // divisor)
+    return cut(top, low) if low > 0 else cut(-top, -low)
 
 
 def total(fractions, weights=None):
@@ -50,5 +53,5 @@ def total(fractions, weights=None):
     top, low = 0, 1
     for (over, under), (times, parts) in zip(fractions, factors):
         # Cut at each step: uncut, the numbers would grow with each fraction more.
-        top, low = fraction(top * under * parts + over * times * low, low * under * parts)
+        top, low = cut(top * under * parts + over * times * low, low * under * parts)
     return (top, low)

@@ -51,6 +51,15 @@ def _read_ties(lines, places):
     return tuple(ties)
 
 
+def _numbers(ties):
+    """The number of each tie, by its two places in either sequence."""
+    numbers = {}
+    for number, (one, other) in enumerate(ties):
+        numbers[(one, other)] = number
+        numbers[(other, one)] = number
+    return numbers
+
+
 def _text(places, watchers, ties):
     rows = [("places", *places), ("watchers", *watchers)] + [("tie", *tie) for tie in ties]
     return "\n".join([" ".join(row) for row in rows])
@@ -70,6 +79,10 @@ class Net:
         self.places = _read_places(lines[0])
         self.watchers = _read_watchers(lines[1], self.places)
         self.ties = _read_ties(lines[2:], self.places)
+        self.numbers = _numbers(self.ties)
+        # What ways.py finds out about the net when it is asked for the first time.
+        self.walked = None
+        self.sight = None
 
     def __eq__(self, other):
         return isinstance(other, Net) and self.text == other.text

@@ -1,28 +1,40 @@
 """Who has to watch so that all ties are told, and what one watcher more would tell."""
 
-from tiesums.blind import all_lots, is_lot, meets, parts
+from tiesums.blind import Plan, is_lot, meets
 from tiesums.told import sure_ties
 
 
-def _missed(found, lot):
-    """A part in which no place of the lot is, None if there is none: then these places, watching, tell all ties."""
-    for part in found:
-        if not meets(part, lot):
+def _missed(found, mask):
+    """The first part in which no place of the lot of this mask is, None if there is none.
+
+    If there is none, these places, watching, tell all ties.
+    """
+    for part, bits in found:
+        if bits & mask == 0:
             return part
     return None
 
 
-def _lots_of(net, size):
-    return [lot for lot in all_lots(net) if len(lot) == size]
+def _lots_of(plan, size):
+    return [(lot, mask) for lot, mask in plan.lots(plan.places) if len(lot) == size]
+
+
+def _fewest(plan, found):
+    """The first lot of as few places as can be that misses no part."""
+    lots = plan.lots(plan.places)
+    for size in range(1, len(plan.places)):
+        for lot, mask in lots:
+            if len(lot) == size and _missed(found, mask) is None:
+                return lot
+    return plan.places
 
 
 def least(net):
     """(lot, reasons): as few places as can be that tell all ties, and for each lesser lot a part that it misses."""
-    found = parts(net)
-    enough = [lot for lot in all_lots(net) if _missed(found, lot) is None]
-    size = min([len(lot) for lot in enough])
-    chosen = [lot for lot in enough if len(lot) == size]
-    return (chosen[0], tuple([(lot, _missed(found, lot)) for lot in _lots_of(net, size - 1)]))
+    plan = Plan(net)
+    found = plan.parts(net.places)
+    chosen = _fewest(plan, found)
+    return (chosen, tuple([(lot, _missed(found, mask)) for lot, mask in _lots_of(plan, len(chosen) - 1)]))
 
 
 def shows_least(net, value):
@@ -30,19 +42,21 @@ def shows_least(net, value):
     if not isinstance(value, tuple) or len(value) != 2 or not is_lot(net, value[0]):
         return False
     lot, reasons = value
-    found = parts(net)
-    if _missed(found, lot) is not None:
-        return False
-    lesser = _lots_of(net, len(lot) - 1)
+    plan = Plan(net)
+    lesser = _lots_of(plan, len(lot) - 1)
     if not isinstance(reasons, tuple) or len(reasons) != len(lesser):
         return False
-    return all([_shows_reason(found, other, reason) for other, reason in zip(lesser, reasons)])
-
-
-def _shows_reason(found, lot, value):
-    if not isinstance(value, tuple) or len(value) != 2:
+    found = {part: True for part, mask in plan.parts(net.places)}
+    if not all([meets(part, lot) for part in found]):
         return False
-    return value[0] == lot and value[1] in found and not meets(value[1], lot)
+    shown = [_shows_reason(net, found, other, reason) for (other, mask), reason in zip(lesser, reasons)]
+    return all(shown)
+
+
+def _shows_reason(net, found, lot, value):
+    if not isinstance(value, tuple) or len(value) != 2 or value[0] != lot:
+        return False
+    return is_lot(net, value[1]) and value[1] in found and not meets(value[1], lot)
 
 
 def gains(net):

@@ -4,31 +4,40 @@ A row is a tuple of numbers of ties. A difference is a list of integers, one for
 others. A row hides a difference that comes to 0 along it.
 """
 
-from math import gcd
+from math import gcd, lcm
 
-from tiesums.fractions import ONE, fraction, total
+from tiesums.fractions import ONE, cut
 
 ZERO = (0, 1)
 MINUS_ONE = (-1, 1)
 
 
-def _sum_along(row, difference):
-    return sum([difference[number] for number in row])
+def in_integers(fractions):
+    """(low, tops): these fractions are the tops, each divided by low."""
+    low = 1
+    for _, under in fractions:
+        low = lcm(low, under)
+    return low, [top * (low // under) for top, under in fractions]
 
 
-def _worth(weights, difference):
-    return total(tuple(weights), tuple([(one, 1) for one in difference]))
+def sum_along(row, difference):
+    """What the difference comes to along the row."""
+    return sum([difference[tie] for tie in row])
 
 
-def _levelled(row, difference, shown):
-    # So many times the one less so many times the other that the row hides what is left.
-    much, little = _sum_along(row, shown), _sum_along(row, difference)
-    left = [much * one - little * other for one, other in zip(difference, shown)]
-    # Cut at each step: uncut, the numbers would grow with each row more.
-    divisor = 0
-    for one in left:
-        divisor = gcd(divisor, one)
-    return [one // divisor for one in left]
+def worth_of(tops, difference):
+    """What the difference comes to if each tie counts as often as the tops tell."""
+    return sum([top * one for top, one in zip(tops, difference)])
+
+
+def made(rows, numbers, many):
+    """The weights of so many ties that these rows make with these numbers, fractions."""
+    low, tops = in_integers(numbers)
+    found = [0] * many
+    for row, top in zip(rows, tops):
+        for tie in row:
+            found[tie] += top
+    return tuple([cut(top, low) for top in found])
 
 
 def apart(difference):
@@ -36,45 +45,72 @@ def apart(difference):
     return (ONE,) * len(difference), tuple([(1 + one, 1) for one in difference])
 
 
+def levelled(difference, little, shown, much):
+    """What is left of a difference so that it does not count any more where it counts little, and the shown one much.
+
+    It is made of both and it hides what both hide.
+    """
+    if little == 0:
+        return difference if much > 0 else [-one for one in difference]
+    left = [much * one - little * other for one, other in zip(difference, shown)]
+    # Cut at each step: uncut, the numbers would grow with each row more.
+    divisor = 0
+    for one in left:
+        divisor = gcd(divisor, one)
+    return [one // divisor for one in left] if divisor > 1 else left
+
+
 class Sight:
-    """What rows show of the costs of so many ties.
+    """What rows, each by some name, show of the costs of so many ties.
 
     hidden: as few differences as can be that all rows hide, and of which all others are made that they hide.
-    taken: (at, difference) for each row that shows a difference which all rows ahead of it hide, with one such:
-    rows that are not taken are made by those ahead of them.
+    taken: (name, row, difference) for each row that shows a difference which all rows ahead of it hide, with one
+    such: rows that are not taken are made by those ahead of them.
     """
 
-    def __init__(self, rows, many):
-        self.rows = rows
+    def __init__(self, many):
         self.taken = []
         self.hidden = [[1 if tie == other else 0 for other in range(many)] for tie in range(many)]
-        for at, row in enumerate(rows):
-            self._look(at, row)
 
-    def _look(self, at, row):
-        shown = [one for one in self.hidden if _sum_along(row, one) != 0]
-        if len(shown) > 0:
-            first = shown[0]
-            self.taken.append((at, first))
-            self.hidden = [_levelled(row, one, first) for one in self.hidden if one != first]
+    def look(self, name, row):
+        """Looks along one row more."""
+        found = [sum([one[tie] for tie in row]) for one in self.hidden]
+        if not any(found):
+            return
+        at = 0
+        while found[at] == 0:
+            at += 1
+        shown, much = self.hidden[at], found[at]
+        self.taken.append((name, row, shown))
+        rest = list(zip(self.hidden, found))
+        del rest[at]
+        self.hidden = [levelled(one, little, shown, much) for one, little in rest]
+
+    def hides(self, difference):
+        """Whether all rows hide the difference."""
+        return all([sum_along(row, difference) == 0 for _, row, _ in self.taken])
 
     def unseen(self, weights):
-        """A hidden difference whose worth is not 0. None if there is none: then the rows make the weights."""
+        """A hidden difference whose worth by the weights is not 0. None if there is none: then rows make them."""
+        _, tops = in_integers(weights)
         for difference in self.hidden:
-            if _worth(weights, difference) != ZERO:
+            if worth_of(tops, difference) != 0:
                 return difference
         return None
 
     def making(self, weights):
-        """(at, number) for each row that is needed to make these weights, in the sequence of the rows."""
-        left = list(weights)
+        """The tuple of (name, number) for each row that is needed to make the weights, in the sequence of the rows."""
+        low, left = in_integers(weights)
         found = []
         # All rows ahead of a taken one hide its difference, so it alone brings what the weights still have of it.
-        for at, difference in reversed(self.taken):
-            top, low = _worth(left, difference)
-            number = fraction(top, low * _sum_along(self.rows[at], difference))
-            for tie in self.rows[at]:
-                left[tie] = total((left[tie], number), (ONE, MINUS_ONE))
-            if number != ZERO:
-                found.append((at, number))
-        return found[::-1]
+        for name, row, difference in reversed(self.taken):
+            wanted = worth_of(left, difference)
+            if wanted != 0:
+                much = sum_along(row, difference)
+                times = abs(much) // gcd(wanted, much)
+                low, left = low * times, [one * times for one in left]
+                number = wanted * times // much
+                for tie in row:
+                    left[tie] -= number
+                found.append((name, cut(number, low)))
+        return tuple(found[::-1])

@@ -1,36 +1,73 @@
 """Ways between places that watch, and the sums of costs along them."""
 
 from tiesums.errors import BadCosts, BadWay
-from tiesums.fractions import are_fractions, total
-from tiesums.nets import in_sequence
+from tiesums.fractions import are_fractions, cut
+from tiesums.rows import Sight, in_integers, sum_along
 
 
-def _tie_numbers(net):
-    numbers = {}
-    for number, (one, other) in enumerate(net.ties):
-        numbers[(one, other)] = number
-        numbers[(other, one)] = number
-    return numbers
+class Walk:
+    """Goes all ways of a net, one at a time, ascending."""
+
+    def __init__(self, net):
+        self.onward = {place: [] for place in net.places}
+        for (place, other), number in sorted(list(net.numbers.items()), reverse=True):
+            self.onward[place].append((other, number))
+        # A way leads to a watcher that stands behind the one at which it begins.
+        self.ends = {place: net.watchers[at:] for at, place in enumerate(net.watchers, start=1)}
+        # What was put here last is gone on with first, so what stands ahead by its letters is put here last.
+        self.paths = [((place,), ()) for place in sorted(net.watchers[:-1], reverse=True)]
+
+    def step(self):
+        """(way, row) for the next way, its ties numbered in the row as it goes along them. None if there is none."""
+        while len(self.paths) > 0:
+            path, row = self.paths.pop()
+            for place, number in self.onward[path[-1]]:
+                if place not in path:
+                    self.paths.append(((*path, place), (*row, number)))
+            if path[-1] in self.ends[path[0]]:
+                return path, row
+        return None
 
 
-def _numbers_along(numbers, way):
-    return tuple(sorted([numbers[step] for step in zip(way, way[1:])]))
+def walked(net):
+    """The list of (way, row) for all ways, ascending."""
+    # Kept with the net, which never changes, as this is asked again and again.
+    if net.walked is None:
+        walk, found = Walk(net), []
+        while (step := walk.step()) is not None:
+            found.append(step)
+        net.walked = found
+    return net.walked
 
 
-def _joins_watchers(net, path):
-    # Both ends watch, and the first one stands ahead of the last one.
-    ends = (path[0], path[-1])
-    return ends == in_sequence(net.watchers, ends)
+def sight_of(net):
+    """What all ways show."""
+    if net.sight is None:
+        walk, sight = Walk(net), Sight(len(net))
+        # As soon as nothing is hidden no further way shows more.
+        while len(sight.hidden) > 0 and (step := walk.step()) is not None:
+            way, row = step
+            sight.look(way, row)
+        net.sight = sight
+    return net.sight
+
+
+def row_of(net, way):
+    """The numbers of the ties that the way goes along, in its sequence."""
+    return [net.numbers[step] for step in zip(way, way[1:])]
 
 
 def is_way(net, value):
     """Whether any value is a way of the net."""
     if not isinstance(value, tuple) or not 2 <= len(value) <= len(net.places):
         return False
-    if not all([place in net.places for place in value]) or len(set(value)) != len(value):
+    if not all([isinstance(place, str) for place in value]) or len(set(value)) != len(value):
         return False
-    steps = [in_sequence(net.places, step) for step in zip(value, value[1:])]
-    return _joins_watchers(net, value) and all([step in net.ties for step in steps])
+    if value[0] not in net.watchers or value[-1] not in net.watchers:
+        return False
+    if net.places.index(value[0]) > net.places.index(value[-1]):
+        return False
+    return all([step in net.numbers for step in zip(value, value[1:])])
 
 
 def are_ascending_ways(net, value):
@@ -42,40 +79,32 @@ def are_ascending_ways(net, value):
 
 def are_costs(net, value):
     """Whether any value is a tuple of fractions, one for each tie: costs, or weights."""
-    return are_fractions(value) and len(value) == len(net)
+    return isinstance(value, tuple) and len(value) == len(net) and are_fractions(value)
 
 
 def are_alike(net, costs, others):
     """Whether two values of any kind are costs by which all ways have the same sums."""
-    return are_costs(net, costs) and are_costs(net, others) and sums(net, costs) == sums(net, others)
+    if not are_costs(net, costs) or not are_costs(net, others):
+        return False
+    _, tops = in_integers((*costs, *others))
+    return sight_of(net).hides([other - one for one, other in zip(tops, tops[len(net):])])
 
 
 def ways(net):
     """The ascending tuple of all ways."""
-    tied = {place: net.tied(place) for place in net.places}
-    found = []
-    paths = [(place,) for place in net.watchers]
-    while len(paths) > 0:
-        paths = [(*path, place) for path in paths for place in tied[path[-1]] if place not in path]
-        found.extend([path for path in paths if _joins_watchers(net, path)])
-    return tuple(sorted(found))
-
-
-def rows_of(net, some):
-    """For each of some ways the ascending tuple of the numbers of the ties that it goes along."""
-    numbers = _tie_numbers(net)
-    return [_numbers_along(numbers, way) for way in some]
+    return tuple([way for way, row in walked(net)])
 
 
 def along(net, way):
     """The ascending tuple of the numbers of the ties that the way goes along."""
     if not is_way(net, way):
         raise BadWay(way)
-    return _numbers_along(_tie_numbers(net), way)
+    return tuple(sorted(row_of(net, way)))
 
 
 def sums(net, costs):
     """The sums of all ways, in their sequence."""
     if not are_costs(net, costs):
         raise BadCosts(costs)
-    return tuple([total(tuple([costs[number] for number in row])) for row in rows_of(net, ways(net))])
+    low, tops = in_integers(costs)
+    return tuple([cut(sum_along(row, tops), low) for way, row in walked(net)])

@@ -1,4 +1,4 @@
-"""The examples at the ends of points 5 to 13, word for word."""
+"""The examples at the ends of points 5 to 15, word for word."""
 
 import doctest
 import unittest
@@ -60,9 +60,32 @@ READINGS = """
 
 CHOOSING = """
 >>> from tiesums.beside import alike, within
+>>> from tiesums.choosing import cheapest
 >>> fewer = house.without_watcher('c')
 >>> [within(house, fewer)[0], within(fewer, house)[0], alike(house, fewer)[:2], len(within(house, fewer)[1])]
 ['within', 'parts', ('parts', 1), 3]
+>>> found = cheapest(house, (('tie', 'c', 'p', 2), ('watch', 'p', 3)), (3, 4))
+>>> [found[:3], len(found[3]), [row[0] for row in found[4]]]
+[('choice', 2, (('tie', 'c', 'p', 2),)), 2, [()]]
+"""
+
+SURVEYS = """
+>>> from tiesums.surveys import Survey
+>>> survey = Survey(star)
+>>> [survey.read(('a', 'm', 'b'), 5), survey.read(('a', 'm', 'c'), 6), survey.sure(), survey.next(((1, 1), (0, 1), (0, 1)))]
+[None, None, (), ('way', ('b', 'm', 'c'))]
+>>> [survey.watch('m'), survey.read(('a', 'm'), 2), survey.sure(), len(survey), survey.cost(((1, 1), (1, 1), (1, 1)))[:2]]
+[None, None, ((0, (2, 1)), (1, (3, 1)), (2, (4, 1))), 3, ('sure', (9, 1))]
+"""
+
+DESKS = """
+>>> from tiesums.desk import Desk
+>>> from tiesums.journals import journal
+>>> desk = Desk(journal(survey))
+>>> [desk.say(line) for line in ('cost b m', 'sure', 'told', 'undo', 'cost b m', 'watchers', 'read -1 a m')]
+['3/1', '0=2/1 1=3/1 2=4/1', '0 1 2', 'ok', 'open', 'a b c m', 'ok']
+>>> journal(desk.survey).split('\\n')[5:]
+['survey', 'read 5 a m b', 'read 6 a m c', 'watch m', 'read -1 a m']
 """
 
 
@@ -97,6 +120,15 @@ class Examples(unittest.TestCase):
 
     def test_point_13(self):
         self.check_examples(NETS, CHOOSING)
+
+    def test_point_14(self):
+        self.check_examples(NETS, SURVEYS)
+
+    def test_point_15(self):
+        self.check_examples(NETS, SURVEYS, DESKS)
+
+    def test_all_one_behind_the_other(self):
+        self.check_examples(NETS, WAYS, TOLD, BLIND, PLACING, FAILING, READINGS, CHOOSING, SURVEYS, DESKS)
 
 
 if __name__ == "__main__":

@@ -7,8 +7,10 @@ import unittest
 
 import tiesums
 from samples import STAR
-from tiesums import beside, blind, failing, fractions, nets, placing, readings, told, ways
+from tiesums import beside, blind, choosing, desk, failing, fractions, journals, nets, placing, readings, surveys, told, ways
+from tiesums.desk import Desk
 from tiesums.nets import Net
+from tiesums.surveys import Survey
 
 # For each file what the interface lists in it: the functions with their parameters.
 FUNCTIONS = {
@@ -25,6 +27,8 @@ FUNCTIONS = {
                "shows_mended": "net readings value", "next_way": "net readings weights"},
     beside: {"within": "one other", "shows_within": "one other value", "alike": "one other",
              "shows_alike": "one other value"},
+    choosing: {"cheapest": "net offers wishes", "shows_cheapest": "net offers wishes value"},
+    journals: {"journal": "survey", "read_journal": "text"},
 }
 
 FOLDER = pathlib.Path(tiesums.__file__).parent
@@ -60,6 +64,29 @@ class Interface(unittest.TestCase):
         wanted = {"tied", "with_watcher", "without_watcher", "with_tie", "without_tie",
                   "__len__", "__contains__", "__eq__", "__init__"}
         self.assertLessEqual(wanted, methods)
+
+    def test_survey_and_desk_and_their_methods_stand_in_their_files(self):
+        wanted = {"__init__": "net", "__len__": "", "__eq__": "other", "cost": "weights", "shows_cost": "weights value", "sure": "",
+                  "next": "weights", "read": "way amount", "watch": "place", "undo": "", "redo": "", "trial": "", "keep": "",
+                  "copy": ""}
+        self.check_methods(Survey, "surveys.py", wanted)
+        self.check_methods(Desk, "desk.py", {"__init__": "text", "say": "line"})
+        tried = inspect.signature(Survey.tried).parameters
+        self.assertEqual(list(tried), ["self", "look", "keep"])
+        self.assertEqual((tried["keep"].kind, tried["keep"].default), (inspect.Parameter.KEYWORD_ONLY, False))
+        self.assertIn("tried", vars(Survey))
+
+    def check_methods(self, kind, file, wanted):
+        body = defined(file, ast.ClassDef)[kind.__name__].body
+        self.assertLessEqual(set(wanted), {row.name for row in body if isinstance(row, ast.FunctionDef)})
+        for name, names in wanted.items():
+            self.assertEqual([one for one, default in self.parameters(vars(kind)[name])], ["self", *names.split()])
+
+    def test_attributes_of_survey_and_desk_are_set_when_they_are_made(self):
+        survey = surveys.Survey(Net(STAR))
+        for name, kind in (("net", Net), ("first", Net), ("readings", tuple), ("done", int)):
+            self.assertIs(type(vars(survey)[name]), kind)
+        self.assertIs(type(vars(desk.Desk(STAR + "\nsurvey"))["survey"]), Survey)
 
     def test_parameters_of_net(self):
         names = {Net: ["text"], Net.tied: ["self", "place"], Net.with_watcher: ["self", "place"],

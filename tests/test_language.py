@@ -235,10 +235,21 @@ def is_simple(node):
     return isinstance(node, (ast.Name, ast.Constant))
 
 
+def is_asked_for_none(test):
+    """L6: the package has classes with __eq__, so __exit__ asks a name or an attribute only whether it is None."""
+    if isinstance(test, ast.BoolOp):
+        return all(is_asked_for_none(one) for one in test.values)
+    if isinstance(test, ast.UnaryOp):
+        return isinstance(test.op, ast.Not) and is_asked_for_none(test.operand)
+    if not isinstance(test, ast.Compare) or len(test.ops) != 1 or not isinstance(test.ops[0], (ast.Is, ast.IsNot)):
+        return False
+    asked, wanted = test.left, test.comparators[0]
+    return is_simple(asked) and not isinstance(asked, ast.Constant) and ast.unparse(wanted) == "None"
+
+
 def is_row_of_exit(row):
     if isinstance(row, ast.If):
-        asked = [node for node in ast.walk(row.test) if isinstance(node, (ast.Call, ast.Subscript, ast.BinOp))]
-        return not asked and all(is_row_of_exit(one) for one in row.body + row.orelse)
+        return is_asked_for_none(row.test) and all(is_row_of_exit(one) for one in row.body + row.orelse)
     return isinstance(row, ast.Pass) or isinstance(row, ast.Assign) and is_simple(row.targets[0]) and is_simple(row.value)
 
 
@@ -392,6 +403,10 @@ class TheReaderOfRules(unittest.TestCase):
                 ("L6", "class A:\n    def __exit__(self, kind, value, trace):\n        if kind:\n            pass\n"),
                 ("L6", "class A:\n    def __exit__(self, kind, value, trace):\n        self.a, self.b = 1, 2\n"),
                 ("L6", "def f(a):\n    with a[0] as b:\n        return b\n"),
+                *[("L6", f"class A:\n    def __exit__(self, kind, value, trace):\n        if {test}:\n            pass\n")
+                  for test in ("self.kept", "not self.kept", "kind is not None or not self.kept", "self.kept == 1",
+                               "self.kept is True", "self.kept is None and self.a[0] is None", "None is None",
+                               "self.kept() is None", "self.kept is None is kind", "-self.kept is None")],
                 ("L7", "def f(a):\n    b = (c := a) + 1\n    return b + c\n"),
                 ("L7", "def f(a):\n    while a:\n        return (c := a)\n"),
                 ("L18", "class A:\n    def b(self):\n        self.b = 1\n"),
@@ -417,6 +432,11 @@ class TheReaderOfRules(unittest.TestCase):
             if name != "_walls":
                 self.assertEqual(broken(f"{name} = 1\n"), [])
         self.assertEqual(broken("class A:\n    def _walls(self):\n        return 1\n"), [])
+
+    def test_it_lets_exit_ask_for_none(self):
+        for test in ("self.kept is None", "kind is not None or self.kept is None", "not (kind is None and self.a is None)"):
+            text = f"class A:\n    def __exit__(self, kind, value, trace):\n        if {test}:\n            self.a = self.b\n"
+            self.assertEqual(broken(text), [], test)
 
     def test_it_lets_what_breaks_none(self):
         text = '"""Some type."""\n\nfrom math import gcd\n\nONE = (1, 1)\n\n\ndef cut(a, b=2):\n    return a // gcd(a, b)\n'

@@ -7,12 +7,15 @@ from tiesums.ways import is_way
 
 
 class Trial:
-    """A block behind which the survey is as ahead of it, unless it is kept."""
+    """A block behind which the survey is as ahead of it, unless it is kept.
+
+    kept: None as long as nobody has called keep in it, from then on True.
+    """
 
     def __init__(self, survey):
         self.survey = survey
         self.outer = None
-        self.kept = False
+        self.kept = None
 
     def __enter__(self):
         survey = self.survey
@@ -28,7 +31,7 @@ class Trial:
     def __exit__(self, kind, value, trace):
         survey = self.survey
         survey.inner = self.outer
-        if kind is not None or not self.kept:
+        if kind is not None or self.kept is None:
             survey.net = self.net
             survey.readings = self.readings
             survey.done = self.done

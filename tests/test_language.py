@@ -301,6 +301,34 @@ def rules_of_errors(tree):
                 yield "L19", node.lineno
 
 
+def generators_of(tree):
+    """The names of the functions that yield."""
+    return [node.name for node in ast.walk(tree) if isinstance(node, ast.FunctionDef)
+            for inner in ast.walk(node) if isinstance(inner, (ast.Yield, ast.YieldFrom))]
+
+
+def rules_of_generators(tree, generators):
+    """L23: yield is a statement of its own, not under try or with; what yields is iterated at once and means no other thing."""
+    homes = {child: node for node in ast.walk(tree) for child in ast.iter_child_nodes(node)}
+    for node in ast.walk(tree):
+        home = homes.get(node)
+        if isinstance(node, (ast.Yield, ast.YieldFrom)):
+            around = [home]
+            while not isinstance(around[-1], ast.FunctionDef):
+                around.append(homes[around[-1]])
+            returns = [one for one in ast.walk(around[-1]) if isinstance(one, ast.Return) and one.value is not None]
+            if not isinstance(home, ast.Expr) or returns or any(isinstance(one, (ast.Try, ast.With)) for one in around):
+                yield "L23", node.lineno
+        if isinstance(node, ast.Name) and node.id in generators:
+            call = homes[home]
+            looped = isinstance(call, (ast.For, ast.comprehension)) and call.iter is home or isinstance(call, ast.YieldFrom)
+            taken = isinstance(call, ast.Call) and getattr(call.func, "id", "") in USING_UP and home in call.args
+            if not (isinstance(home, ast.Call) and home.func is node and (looped or taken)):
+                yield "L23", node.lineno
+        if isinstance(node, ast.Attribute) and node.attr in generators or isinstance(node, ast.arg) and node.arg in generators:
+            yield "L23", node.lineno
+
+
 def rules_of_words(text, tree):
     """L17: words that do not occur but in comments and docstrings."""
     lines = text.split("\n")
@@ -311,13 +339,14 @@ def rules_of_words(text, tree):
             yield "L17", number
 
 
-def broken(text, own_methods=()):
+def broken(text, own_methods=(), generators=()):
     """The (rule, line) of all that this text of a file breaks."""
     tree = ast.parse(text)
+    generators = [*generators, *generators_of(tree)]
     rows = [*rules_of_text(text), *rules_of_module(tree), *rules_of_names(tree), *rules_of_functions(tree)]
     rows += [*rules_of_values(tree), *rules_of_calls(tree, list(own_methods)), *rules_of_errors(tree)]
     rows += [*rules_of_iteration(tree), *rules_of_library(tree), *rules_of_blocks(tree), *rules_of_classes(tree)]
-    return sorted(set(rows + [*rules_of_words(text, tree)]))
+    return sorted(set(rows + [*rules_of_words(text, tree), *rules_of_generators(tree, generators)]))
 
 
 class Rules(unittest.TestCase):
@@ -334,8 +363,14 @@ class Rules(unittest.TestCase):
 
     def test_each_file_keeps_the_rules(self):
         own_methods = [row.name for tree in self.trees.values() for row in methods_of(tree)]
+        generators = [name for tree in self.trees.values() for name in generators_of(tree)]
         for path, text in self.texts.items():
-            self.assertEqual(broken(text, own_methods), [], path.name)
+            self.assertEqual(broken(text, own_methods, generators), [], path.name)
+
+    def test_each_generator_has_a_name_of_its_own(self):
+        names = [node.name for tree in self.trees.values() for node in ast.walk(tree) if isinstance(node, ast.FunctionDef)]
+        for name in {name for tree in self.trees.values() for name in generators_of(tree)}:
+            self.assertEqual(names.count(name), 1, name)
 
     def test_python_gives_no_warning(self):
         for path, text in self.texts.items():
@@ -392,6 +427,11 @@ class TheReaderOfRules(unittest.TestCase):
                                                              "    except TypeError:\n        pass\n"),
                 ("L19", "def f(a):\n    raise a\n"), ("L20", "def f(a, b):\n    return a is b\n"),
                 ("L23", "def f(a):\n    b = zip(a, a)\n    return b\n"), ("L23", "def f(a):\n    return a.items()\n"),
+                *[("L23", "def f(a):\n    yield a\n\n\ndef g(a):\n    " + row + "\n") for row in (
+                    "return f(a)", "b = f", "return a(f)", "return [f(a)]", "b, c = f(a)", "return a in f(a)", "return len(f(a))",
+                    "return a.f", "return max(a, key=f)")],
+                ("L23", "def f(a):\n    b = yield a\n    return\n"), ("L23", "def f(a):\n    yield a\n    return 1\n"),
+                ("L23", "def f(a):\n    with a:\n        yield a\n"), ("L23", "def f(a):\n    yield a\n\n\ndef g(f):\n    pass\n"),
                 ("L24", "def f(a):\n    return set(a)\n"), ("L24", "def f(a):\n    for b in {c for c in a}:\n        pass\n"),
                 ("L7", "def f(a):\n    return tuple(b for b in a)\n"),
                 ("L7", "from math import gcd\n\n\ndef f(a):\n    return gcd(*a)\n"),
@@ -441,6 +481,9 @@ class TheReaderOfRules(unittest.TestCase):
     def test_it_lets_what_breaks_none(self):
         text = '"""Some type."""\n\nfrom math import gcd\n\nONE = (1, 1)\n\n\ndef cut(a, b=2):\n    return a // gcd(a, b)\n'
         self.assertEqual(broken(text), [])
+        for row in ("return list(f(a))", "for b in f(a):\n        a(b)", "return [b for b in f(a)]", "yield from f(a)",
+                    "for b, c in enumerate(f(a)):\n        a(b, c)"):
+            self.assertEqual(broken("def f(a):\n    yield a\n    return\n\n\ndef g(a):\n    " + row + "\n"), [], row)
 
 
 if __name__ == "__main__":

@@ -3,9 +3,9 @@
 from tiesums.errors import OtherTies
 from tiesums.fractions import ONE, is_integer
 from tiesums.nets import Net
-from tiesums.rows import ZERO, apart
+from tiesums.rows import Maker, apart
 from tiesums.told import make_all
-from tiesums.ways import are_alike, is_way, sight_of, walked
+from tiesums.ways import are_alike, sight_of, walked
 
 
 def _need_same_ties(one, other):
@@ -21,19 +21,17 @@ def _parts(one, other):
     return None
 
 
-def _counted(net, row):
-    """The weights that a way along this row makes by itself."""
-    return tuple([ONE if tie in row else ZERO for tie in range(len(net))])
-
-
-def _signed(one, way, row):
-    if is_way(one, way):
-        return ((way, ONE),)
-    return sight_of(one).making(_counted(one, row))
-
-
 def _rows(one, other):
-    return tuple([_signed(one, way, row) for way, row in walked(other)])
+    """For each way of other signed ways of one that make what it makes."""
+    maker = Maker(sight_of(one), len(one))
+    found = []
+    for way, row in walked(other).items():
+        # The ties are the same: if both ends watch, the way is one of both nets.
+        if way[0] in one.watchers and way[-1] in one.watchers:
+            found.append(((way, ONE),))
+        else:
+            found.append(maker.making(row))
+    return tuple(found)
 
 
 def within(one, other):
@@ -47,7 +45,7 @@ def within(one, other):
 
 
 def _shows_rows(one, other, value):
-    return make_all(one, value, [_counted(one, row) for way, row in walked(other)])
+    return make_all(one, value, list(walked(other).values()))
 
 
 def _shows_parts(one, other, costs, others):

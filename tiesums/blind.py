@@ -5,9 +5,6 @@ from tiesums.nets import in_sequence
 from tiesums.rows import apart
 from tiesums.ways import are_alike
 
-MOST_AROUND = 2
-
-
 class Plan:
     """Lots of places of a net as masks, integers with a bit for each place, so that many can be asked after."""
 
@@ -18,43 +15,49 @@ class Plan:
         for one, other in net.ties:
             self.near[one] |= self.bits[other]
             self.near[other] |= self.bits[one]
+        bits = [0] + list(self.bits.values())
+        # All masks of as few places as may be around a part.
+        self.few = {one | other: True for one in bits for other in bits}
+        self.seen = {}
 
     def lots(self, places):
-        """(lot, mask) for all lots of some places, in sequence, () among them, ascending."""
-        found = [((), 0)]
+        """(lot, mask) for all lots of some places, in sequence, () among them."""
+        found = [((), 0, 0)]
         for place in places:
-            found = found + [((*lot, place), mask | self.bits[place]) for lot, mask in found]
-        return sorted(found)
+            bit, near = self.bits[place], self.near[place]
+            found = found + [((*lot, place), mask | bit, more | near) for lot, mask, more in found]
+        self.seen = {mask: more for _, mask, more in found}
+        return [(lot, mask) for lot, mask, _ in found]
 
-    def parts(self, places):
-        """(lot, mask) for all parts that have some of these places alone, ascending."""
-        return [(lot, mask) for lot, mask in self.lots(places) if self.is_part(lot, mask)]
+    def mask_of(self, lot):
+        """The mask of a lot."""
+        return sum([self.bits[place] for place in lot])
 
-    def around(self, lot, mask):
-        """The places outside of the lot that are tied to places of it, as a mask."""
-        near = 0
-        for place in lot:
-            near |= self.near[place]
-        return near & ~mask
+    def parts(self, lots):
+        """Those (lot, mask) of some that are parts, ascending."""
+        return sorted([(lot, mask) for lot, mask in lots if self.is_part(mask)])
 
-    def is_part(self, lot, mask):
-        """Whether the lot is a part."""
-        more = self.around(lot, mask)
-        # Twice without its lowest bit: what is left are the places behind the first two.
-        for _ in range(MOST_AROUND):
-            more &= more - 1
-        if more != 0:
-            return False
-        return any([self.near[place] != 0 for place in lot]) and self._hangs_together(lot, mask)
+    def tied(self, mask):
+        """The places that are tied to places of this lot, in it or outside, as a mask."""
+        if mask not in self.seen:
+            found = 0
+            for place, bit in self.bits.items():
+                if bit & mask:
+                    found |= self.near[place]
+            self.seen[mask] = found
+        return self.seen[mask]
 
-    def _hangs_together(self, lot, mask):
-        # From the first place of the lot to all that ties among its places lead to.
-        reached, more = 0, self.bits[lot[0]]
+    def is_part(self, mask):
+        """Whether the lot of this mask is a part."""
+        tied = self.tied(mask)
+        return tied != 0 and tied & ~mask in self.few and self._hangs_together(mask)
+
+    def _hangs_together(self, mask):
+        # From one place of the lot to all that ties among its places lead to.
+        reached, more = 0, mask & -mask
         while more != reached:
             reached = more
-            for place in lot:
-                if self.bits[place] & more:
-                    more |= self.near[place] & mask
+            more = reached | self.tied(reached) & mask
         return reached == mask
 
 
@@ -78,7 +81,7 @@ def _is_part(net, value):
     if not is_lot(net, value):
         return False
     plan = Plan(net)
-    return plan.is_part(value, sum([plan.bits[place] for place in value]))
+    return plan.is_part(plan.mask_of(value))
 
 
 def _is_blind(net, value):
@@ -87,7 +90,8 @@ def _is_blind(net, value):
 
 def parts(net):
     """The ascending tuple of all parts."""
-    return tuple([lot for lot, mask in Plan(net).parts(net.places)])
+    plan = Plan(net)
+    return tuple([lot for lot, mask in plan.parts(plan.lots(net.places))])
 
 
 def edge(net, lot):
@@ -99,7 +103,8 @@ def edge(net, lot):
 
 def blind(net):
     """("blind", lot, edge) with a blind part, or ("none",)."""
-    found = Plan(net).parts([place for place in net.places if place not in net.watchers])
+    plan = Plan(net)
+    found = plan.parts(plan.lots([place for place in net.places if place not in net.watchers]))
     if len(found) == 0:
         return ("none",)
     lot, _ = found[0]

@@ -4,7 +4,7 @@ from itertools import combinations
 
 from tiesums.errors import BadOffers, BadWishes
 from tiesums.fractions import is_integer
-from tiesums.nets import MOST_TIES, in_sequence
+from tiesums.nets import MOST_TIES, Net, in_sequence, text_of
 from tiesums.rows import apart
 from tiesums.told import make_all, tell_apart, weights_of
 from tiesums.ways import sight_of
@@ -62,12 +62,12 @@ def _choices(net, offers):
 
 def _by(net, choice):
     """The net by the choice."""
-    for offer in choice:
-        if offer[0] == "watch":
-            net = net.with_watcher(offer[1])
-        else:
-            net = net.with_tie(offer[1], offer[2])
-    return net
+    if len(choice) == 0:
+        # The net itself may know its ways by now.
+        return net
+    places = [offer[1] for offer in choice if offer[0] == "watch"]
+    ties = [offer[1:-1] for offer in choice if offer[0] == "tie"]
+    return Net(text_of(net.places, in_sequence(net.places, (*net.watchers, *places)), (*net.ties, *ties)))
 
 
 def _hidden_wish(net, wishes):
@@ -115,7 +115,7 @@ def shows_cheapest(net, offers, wishes, value):
     if not is_integer(value[1]) or value[1] != _price(value[2]):
         return False
     other = _by(net, value[2])
-    if not make_all(other, value[3], [weights_of(other, number) for number in wishes]):
+    if not make_all(other, value[3], [(number,) for number in wishes]):
         return False
     return _show_reasons(net, wishes, choices[:at], value[4])
 

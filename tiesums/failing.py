@@ -1,7 +1,5 @@
 """Which ties can have failed, if it is told which ways let nobody through."""
 
-from itertools import combinations
-
 from tiesums.errors import BadFailed, BadNumber, NoBlame
 from tiesums.fractions import is_integer
 from tiesums.ways import are_ascending_ways, walked
@@ -11,20 +9,23 @@ MOST_FAILED = 3
 
 def _ways_along(net):
     """For each tie the ways that go along it, as an integer with a bit for each way."""
-    found = [0] * len(net)
-    for at, (way, row) in enumerate(walked(net)):
+    found, bit = [0] * len(net), 1
+    for row in walked(net).values():
         for tie in row:
-            found[tie] |= 1 << at
+            found[tie] |= bit
+        bit <<= 1
     return found
 
 
 def _bits_of(net, some):
     """Some ways, as an integer with a bit for each of them."""
     asked = {way: True for way in some}
-    return sum([1 << at for at, (way, row) in enumerate(walked(net)) if way in asked])
+    return sum([1 << at for at, way in enumerate(walked(net)) if way in asked])
 
 
 def _need_failed(net, failed, most):
+    # Ways are found faster among all of them, which are needed anyway.
+    walked(net)
     if not are_ascending_ways(net, failed):
         raise BadFailed(failed)
     if not is_integer(most) or not 0 <= most <= MOST_FAILED:
@@ -46,14 +47,12 @@ def blame(net, failed, most):
     along = _ways_along(net)
     # A tie along which another way goes cannot have failed.
     able = [tie for tie, bits in enumerate(along) if bits & wanted == bits]
-    found = []
+    rows, found = [((), 0)], []
     for many in range(most + 1):
-        for some in combinations(able, many):
-            bits = 0
-            for tie in some:
-                bits |= along[tie]
-            if bits == wanted:
-                found.append(some)
+        if many > 0:
+            rows = [((*some, tie), bits | along[tie])
+                    for some, bits in rows for tie in able if len(some) == 0 or some[-1] < tie]
+        found.extend([some for some, bits in rows if bits == wanted])
     return tuple(sorted(found))
 
 
@@ -62,7 +61,10 @@ def verdict(net, failed, most):
     found = blame(net, failed, most)
     if len(found) == 0:
         raise NoBlame(failed)
-    counts = [len([some for some in found if tie in some]) for tie in range(len(net))]
+    counts = [0] * len(net)
+    for some in found:
+        for tie in some:
+            counts[tie] += 1
     always = [tie for tie, count in enumerate(counts) if count == len(found)]
     at_times = [tie for tie, count in enumerate(counts) if 0 < count < len(found)]
     never = [tie for tie, count in enumerate(counts) if count == 0]

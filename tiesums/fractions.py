@@ -17,7 +17,10 @@ def is_fraction(value):
     if not isinstance(value, tuple) or len(value) != 2:
         return False
     top, low = value
-    return is_integer(top) and is_integer(low) and low >= 1 and gcd(top, low) == 1
+    # As is_integer tells it, but this is asked so often that two calls more would count.
+    if not isinstance(top, int) or not isinstance(low, int) or isinstance(top, bool) or isinstance(low, bool):
+        return False
+    return low >= 1 and gcd(top, low) == 1
 
 
 def are_fractions(value):

@@ -2,7 +2,6 @@
 
 from tiesums.errors import BadNet, BadTie, Few, Full, Last, NoPlace, NoWatcher, Watches
 
-LETTERS = "abcdefghijklmnopqrstuvwxyz"
 LONGEST_NAME = 8
 FEWEST_PLACES = 3
 MOST_PLACES = 8
@@ -13,7 +12,7 @@ FIRST_TIE_LINE = 3
 
 
 def _is_name(word):
-    return 1 <= len(word) <= LONGEST_NAME and all([sign in LETTERS for sign in word])
+    return len(word) <= LONGEST_NAME and word.isascii() and word.isalpha() and word.islower()
 
 
 def in_sequence(places, some):
@@ -38,29 +37,26 @@ def _read_watchers(line, places):
     return lot
 
 
+def _are_tied(at, names):
+    """Whether two names may be written as a tie of places that stand at these numbers."""
+    return len(names) == 2 and names[0] in at and names[1] in at and at[names[0]] < at[names[1]]
+
+
 def _read_ties(lines, places):
-    ties = []
-    for number, line in enumerate(lines, start=FIRST_TIE_LINE):
-        word, *names = line.split(" ")
-        tie = tuple(names)
-        if word != "tie" or len(tie) != 2 or tie != in_sequence(places, tie):
-            raise BadNet(number)
-        if tie in ties or len(ties) == MOST_TIES:
-            raise BadNet(number)
-        ties.append(tie)
-    return tuple(ties)
-
-
-def _numbers(ties):
     """The number of each tie, by its two places in either sequence."""
+    at = {place: number for number, place in enumerate(places)}
     numbers = {}
-    for number, (one, other) in enumerate(ties):
-        numbers[(one, other)] = number
-        numbers[(other, one)] = number
+    for number, line in enumerate(lines):
+        word, *names = line.split(" ")
+        if word != "tie" or number == MOST_TIES or not _are_tied(at, names) or (names[0], names[1]) in numbers:
+            raise BadNet(number + FIRST_TIE_LINE)
+        numbers[(names[0], names[1])] = number
+        numbers[(names[1], names[0])] = number
     return numbers
 
 
-def _text(places, watchers, ties):
+def text_of(places, watchers, ties):
+    """The text of the net of these."""
     rows = [("places", *places), ("watchers", *watchers)] + [("tie", *tie) for tie in ties]
     return "\n".join([" ".join(row) for row in rows])
 
@@ -78,8 +74,9 @@ class Net:
         self.text = text
         self.places = _read_places(lines[0])
         self.watchers = _read_watchers(lines[1], self.places)
-        self.ties = _read_ties(lines[2:], self.places)
-        self.numbers = _numbers(self.ties)
+        self.numbers = _read_ties(lines[2:], self.places)
+        # Each tie is there twice, first as it is written.
+        self.ties = tuple(list(self.numbers)[::2])
         # What ways.py finds out about the net when it is asked for the first time.
         self.walked = None
         self.sight = None
@@ -96,7 +93,7 @@ class Net:
     def tied(self, place):
         """The lot of all places that are tied to this one."""
         self._need_place(place)
-        return tuple([other for other in self.places if self._pair(place, other) in self.ties])
+        return tuple([other for other in self.places if (place, other) in self.numbers])
 
     def with_watcher(self, place):
         """The net in which this place watches, too."""
@@ -104,7 +101,7 @@ class Net:
         if place in self.watchers:
             raise Watches(place)
         watchers = in_sequence(self.places, (*self.watchers, place))
-        return Net(_text(self.places, watchers, self.ties))
+        return Net(text_of(self.places, watchers, self.ties))
 
     def without_watcher(self, place):
         """The net in which this place does not watch."""
@@ -114,7 +111,7 @@ class Net:
         if len(self.watchers) == FEWEST_WATCHERS:
             raise Few(FEWEST_WATCHERS)
         watchers = tuple([other for other in self.watchers if other != place])
-        return Net(_text(self.places, watchers, self.ties))
+        return Net(text_of(self.places, watchers, self.ties))
 
     def with_tie(self, one, other):
         """The net in which these two places are tied, too, behind the other ties."""
@@ -125,7 +122,7 @@ class Net:
             raise BadTie((one, other))
         if len(self.ties) == MOST_TIES:
             raise Full(MOST_TIES)
-        return Net(_text(self.places, self.watchers, (*self.ties, pair)))
+        return Net(text_of(self.places, self.watchers, (*self.ties, pair)))
 
     def without_tie(self, one, other):
         """The net in which these two places are not tied."""
@@ -137,7 +134,7 @@ class Net:
         if len(self.ties) == 1:
             raise Last((one, other))
         ties = tuple([tie for tie in self.ties if tie != pair])
-        return Net(_text(self.places, self.watchers, ties))
+        return Net(text_of(self.places, self.watchers, ties))
 
     def _need_place(self, place):
         if place not in self.places:

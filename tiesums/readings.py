@@ -1,40 +1,101 @@
 """What sums that were told along some ways let be known, and which of them cannot be right together."""
 
-from itertools import combinations
+from math import gcd
 
 from tiesums.errors import BadReadings, Torn
-from tiesums.fractions import ONE, are_fractions, cut, is_fraction, is_integer, total
-from tiesums.rows import MINUS_ONE, ZERO, Sight, in_integers, made, sum_along, worth_of
+from tiesums.fractions import are_fractions, cut, is_fraction, is_integer, total
+from tiesums.rows import MINUS_ONE, ZERO, Sight, cleared, counted, in_integers, made, sum_along, worth_of
 from tiesums.told import need_weights
-from tiesums.ways import are_costs, is_way, row_of, walked
+from tiesums.ways import is_way, row_of, walked
 
 MOST_READINGS = 10
 
 
-class Report:
-    """What readings show of the costs: torn are numbers that show that no costs fit, None if some do.
+class Ahead:
+    """Which ways to go next, if some differences are hidden still."""
 
-    If some do, the tops, each divided by low, are costs that fit.
+    def __init__(self, net, hidden):
+        self.hidden = hidden
+        # No way shows more of a difference than this, nor less than minus this.
+        self.most = max([sum([abs(part) for part in one]) for one in hidden])
+        self.keys = [self._key([one[tie] for one in hidden]) for tie in range(len(net))]
+        self.steps = list(walked(net).items())
+        self.looked = 0
+        self.firsts = {}
+
+    def _key(self, shown):
+        """One integer for what is shown of all differences. Sums of such things have the sums of their keys."""
+        key = 0
+        for one in shown:
+            key = key * (2 * self.most + 1) + one
+        return key
+
+    def _wanted(self, weights):
+        """The keys of all that makes the weights sure: what they show themselves, some times."""
+        _, tops = in_integers(weights)
+        shown = [worth_of(tops, one) for one in self.hidden]
+        divisor = 0
+        for one in shown:
+            divisor = gcd(divisor, one)
+        once = [one // divisor for one in shown]
+        times, key = self.most // max([abs(one) for one in once]), self._key(once)
+        return {many * key: True for many in range(-times, times + 1) if many != 0}
+
+    def way_for(self, weights):
+        """The first way that makes the weights, of which something is hidden, sure. None if there is none."""
+        wanted = self._wanted(weights)
+        found = [self.firsts[key] for key in wanted if key in self.firsts]
+        if len(found) > 0:
+            return min(found)
+        for way, row in self.steps[self.looked:]:
+            self.looked += 1
+            key = sum_along(row, self.keys)
+            self.firsts.setdefault(key, way)
+            if key in wanted:
+                return way
+        return None
+
+
+class Report:
+    """What readings, heard one by one, show of the costs of so many ties.
+
+    torn: numbers of the readings that show that no costs fit, None if some do. As long as some do, the tops, each
+    divided by low, are costs that fit. ahead: an Ahead for the net of the readings, None until it is asked for.
     """
 
-    def __init__(self, net, readings):
-        self.rows = [row_of(net, way) for way, amount in readings]
-        self.sight = Sight(len(net))
-        for at, row in enumerate(self.rows):
-            self.sight.look(at, row)
+    def __init__(self, many):
+        self.rows = []
+        self.amounts = []
+        self.sight = Sight(many)
         self.low = 1
-        self.tops = [0] * len(net)
-        self.torn = self._fit([amount for way, amount in readings])
+        self.tops = [0] * many
+        self.torn = None
+        self.ahead = None
 
-    def _fit(self, amounts):
-        differences = {at: difference for at, _, difference in self.sight.taken}
-        for at, row in enumerate(self.rows):
-            wanted = amounts[at] * self.low - sum_along(row, self.tops)
-            if wanted != 0 and at not in differences:
-                return self._against(at)
-            if wanted != 0:
-                self._add(row, differences[at], wanted)
-        return None
+    def copy(self):
+        """Another one that has heard the same, for a net that may have other ways."""
+        other = Report(0)
+        other.rows, other.amounts = list(self.rows), list(self.amounts)
+        other.sight = self.sight.copy()
+        other.low, other.tops, other.torn = self.low, self.tops, self.torn
+        return other
+
+    def hear(self, row, amount):
+        """Hears a reading of a way along this row behind the others."""
+        if self.torn is not None:
+            self.torn = (*self.torn, ZERO)
+        else:
+            self._fit(row, amount)
+        self.rows.append(row)
+        self.amounts.append(amount)
+
+    def _fit(self, row, amount):
+        wanted = amount * self.low - sum_along(row, self.tops)
+        taken = self.sight.look(len(self.rows), row)
+        if wanted != 0 and taken:
+            self._add(row, self.sight.taken[-1][2], wanted)
+        elif wanted != 0:
+            self.torn = self._against(row)
 
     def _add(self, row, difference, wanted):
         # The rows ahead of it hide the difference: their sums stay as they are.
@@ -44,16 +105,19 @@ class Report:
         self.tops = [top * times + step * one for top, one in zip(self.tops, difference)]
         self.low = self.low * times
 
-    def _against(self, at):
-        """Numbers that show that the reading cannot be right if those ahead of it are, by which it is made."""
-        numbers = list(self.numbers_of(made([self.rows[at]], [ONE], len(self.tops))))
-        numbers[at] = MINUS_ONE
-        return tuple(numbers)
+    def _against(self, row):
+        """Numbers that show that a reading along this row cannot be right if those are by which the row is made."""
+        return (*self.numbers_of(counted(row, len(self.tops))), MINUS_ONE)
 
     def numbers_of(self, weights):
         """The numbers of the readings that make the weights."""
         found = {at: number for at, number in self.sight.making(weights)}
         return tuple([found.get(at, ZERO) for at in range(len(self.rows))])
+
+    def worth(self, weights):
+        """The worth of costs that fit."""
+        low, tops = in_integers(weights)
+        return cut(worth_of(tops, self.tops), low * self.low)
 
     def costs(self):
         """Costs that fit."""
@@ -75,25 +139,32 @@ def _need_readings(net, readings):
         raise BadReadings(readings)
 
 
-def _fit(net, readings, costs):
+def _heard(net, readings):
+    report = Report(len(net))
+    for way, amount in readings:
+        report.hear(row_of(net, way), amount)
+    return report
+
+
+def _fit(report, costs):
     """Whether any value is costs that fit."""
-    if not are_costs(net, costs):
+    if not are_fractions(costs) or len(costs) != len(report.tops):
         return False
     low, tops = in_integers(costs)
-    return all([sum_along(row_of(net, way), tops) == amount * low for way, amount in readings])
+    return all([sum_along(row, tops) == amount * low for row, amount in zip(report.rows, report.amounts)])
 
 
-def _make(net, readings, numbers, weights):
+def _make(report, numbers, weights):
     """Whether any value is numbers of the readings that make the weights."""
-    if not are_fractions(numbers) or len(numbers) != len(readings):
+    if not are_fractions(numbers) or len(numbers) != len(report.rows):
         return False
-    return made([row_of(net, way) for way, amount in readings], numbers, len(net)) == weights
+    return made(report.rows, numbers, len(report.tops)) == weights
 
 
 def fitting(net, readings):
     """("costs", costs that fit), or ("torn", numbers of the readings that show that none do)."""
     _need_readings(net, readings)
-    report = Report(net, readings)
+    report = _heard(net, readings)
     if report.torn is None:
         return ("costs", report.costs())
     return ("torn", report.torn)
@@ -104,18 +175,19 @@ def shows_fitting(net, readings, value):
     _need_readings(net, readings)
     if not isinstance(value, tuple) or len(value) != 2:
         return False
+    report = _heard(net, readings)
     if value[0] == "costs":
-        return _fit(net, readings, value[1])
-    if value[0] != "torn" or not _make(net, readings, value[1], (ZERO,) * len(net)):
+        return _fit(report, value[1])
+    if value[0] != "torn" or not _make(report, value[1], (ZERO,) * len(net)):
         return False
     _, tops = in_integers(value[1])
-    return worth_of(tops, [amount for way, amount in readings]) != 0
+    return worth_of(tops, report.amounts) != 0
 
 
-def _report(net, readings, weights):
+def _untorn(net, readings, weights):
     _need_readings(net, readings)
     need_weights(net, weights)
-    report = Report(net, readings)
+    report = _heard(net, readings)
     if report.torn is not None:
         raise Torn(report.torn)
     return report
@@ -123,77 +195,115 @@ def _report(net, readings, weights):
 
 def reckoned(net, readings, weights):
     """("sure", worth, numbers of the readings that make the weights), or ("open", costs, others) that both fit."""
-    report = _report(net, readings, weights)
+    return reckoned_of(_untorn(net, readings, weights), weights)
+
+
+def reckoned_of(report, weights):
+    """What reckoned tells of what the report heard."""
     difference = report.sight.unseen(weights)
     if difference is None:
-        return ("sure", total(report.costs(), weights), report.numbers_of(weights))
+        return ("sure", report.worth(weights), report.numbers_of(weights))
     return ("open", report.costs(), report.others(difference))
 
 
 def shows_reckoned(net, readings, weights, value):
     """Whether any value is such a result as reckoned tells of these weights."""
-    report = _report(net, readings, weights)
+    return shows_reckoned_of(_untorn(net, readings, weights), weights, value)
+
+
+def shows_reckoned_of(report, weights, value):
+    """Whether any value is such a result as reckoned tells of what the report heard."""
     if not isinstance(value, tuple) or len(value) != 3:
         return False
     if value[0] == "sure":
-        right = is_fraction(value[1]) and value[1] == total(report.costs(), weights)
-        return right and _make(net, readings, value[2], weights)
-    if value[0] != "open" or not _fit(net, readings, value[1]) or not _fit(net, readings, value[2]):
+        return is_fraction(value[1]) and value[1] == report.worth(weights) and _make(report, value[2], weights)
+    if value[0] != "open" or not _fit(report, value[1]) or not _fit(report, value[2]):
         return False
     return total(value[1], weights) != total(value[2], weights)
 
 
-def known(net, readings):
-    """The ascending tuple of (number, cost) for all ties of whose costs readings that some costs fit are sure."""
-    report = Report(net, readings)
-    costs = report.costs()
-    sure = [tie for tie in range(len(net)) if not any([one[tie] for one in report.sight.hidden])]
-    return tuple([(tie, costs[tie]) for tie in sure])
+def known_of(report):
+    """The ascending tuple of (number, cost) for all ties of whose costs what the report heard is sure."""
+    costs, hidden = report.costs(), report.sight.hidden
+    return tuple([(tie, cost) for tie, cost in enumerate(costs) if not any([one[tie] for one in hidden])])
 
 
-def _without(readings, left):
-    return tuple([reading for at, reading in enumerate(readings) if at not in left])
+def _rings(many, rows):
+    """Lists of integers, as few as can be: numbers of the rows that make weights of so many ties that are all 0.
+
+    Of these all others are made that do.
+    """
+    sight, found = Sight(many), []
+    for at, row in enumerate(rows):
+        if not sight.look(at, row):
+            terms = sight.making(counted(row, many))
+            low, tops = in_integers([number for name, number in terms])
+            ring = [0] * len(rows)
+            for (name, _), top in zip(terms, tops):
+                ring[name] = top
+            ring[at] = -low
+            found.append(ring)
+    return found
 
 
-def _conflict(net, readings, left):
-    """Numbers of readings, none of them left out, that cannot be right together. () if costs fit all others."""
-    torn = Report(net, _without(readings, left)).torn
-    if torn is None:
-        return ()
-    kept = [at for at in range(len(readings)) if at not in left]
-    return tuple([at for at, number in zip(kept, torn) if number != ZERO])
+def _conflicts(rings, left):
+    """Masks of readings, none of them left out, that cannot be right together. [] if all others can be.
+
+    Each ring has behind its numbers what the sums, each times its number, come to.
+    """
+    for at in left:
+        found = [ring[at] for ring in rings]
+        if any(found):
+            rings = cleared(rings, found)
+    return [_mask(ring[:-1]) for ring in rings if ring[-1] != 0]
 
 
-def _mask(some):
-    return sum([1 << at for at in some])
-
-
-def _ends_all(conflicts, left):
-    for conflict in conflicts:
-        if conflict & left == 0:
-            return False
-    return True
+def _mask(numbers):
+    return sum([1 << at for at, number in enumerate(numbers) if number != 0])
 
 
 def _left_out(net, readings):
     """The numbers of as few readings as can be without which some costs fit, the first ones of several such."""
-    conflicts, numbers = [], list(range(len(readings)))
-    for many in range(len(readings)):
-        for left in combinations(numbers, many):
-            # One reading of each conflict has to be left out, so most that leave one as it is need no look.
-            if _ends_all(conflicts, _mask(left)):
-                conflict = _conflict(net, readings, left)
-                if len(conflict) == 0:
-                    return left
-                conflicts.append(_mask(conflict))
-    return ()
+    rows, amounts = [row_of(net, way) for way, amount in readings], [amount for way, amount in readings]
+    rings = [[*ring, worth_of(ring, amounts)] for ring in _rings(len(net), rows)]
+    conflicts, several = [], [((), 0)]
+    while True:
+        # One reading of each conflict has to be left out, so most that leave one as it is need no look.
+        able = _meeting(several, conflicts)
+        while len(able) > 0:
+            left = able[0][0]
+            found = _conflicts(rings, left)
+            if len(found) == 0:
+                return left
+            conflicts.extend(found)
+            able = _meeting(able, found)
+        several = _longer(several, len(readings), conflicts)
+
+
+def _meeting(several, conflicts):
+    """Those (numbers, mask) that meet all of these conflicts."""
+    for conflict in conflicts:
+        several = [some for some in several if some[1] & conflict != 0]
+    return several
+
+
+def _longer(several, many, conflicts):
+    """All (numbers, mask) with one number more, behind the others but below many, that can still meet all conflicts."""
+    for conflict in conflicts:
+        # A mask below the conflict has still to come to the highest number of it.
+        several = [some for some in several if some[1] & conflict != 0 or some[1] < conflict]
+    return [((*left, at), mask | 1 << at) for left, mask in several for at in range(mask.bit_length(), many)]
+
+
+def _rest(readings, left):
+    return tuple([reading for at, reading in enumerate(readings) if at not in left])
 
 
 def mended(net, readings):
     """(left, costs): which readings, as few as can be, are left out, and costs that fit all others."""
     _need_readings(net, readings)
     left = _left_out(net, readings)
-    return (left, Report(net, _without(readings, left)).costs())
+    return (left, _heard(net, _rest(readings, left)).costs())
 
 
 def shows_mended(net, readings, value):
@@ -202,25 +312,21 @@ def shows_mended(net, readings, value):
     if not isinstance(value, tuple) or len(value) != 2 or not isinstance(value[0], tuple):
         return False
     left, costs = value
-    if not all([is_integer(at) for at in left]) or left != _left_out(net, readings):
+    if not all([is_integer(at) for at in left]) or not _fit(_heard(net, _rest(readings, left)), costs):
         return False
-    return _fit(net, _without(readings, left), costs)
+    return left == _left_out(net, readings)
 
 
 def next_way(net, readings, weights):
     """("sure",) if reckoned tells it; otherwise the first ("way", way) by which it would; ("more",) if none does."""
-    report = _report(net, readings, weights)
-    shown = report.sight.unseen(weights)
-    if shown is None:
+    return next_of(net, _untorn(net, readings, weights), weights)
+
+
+def next_of(net, report, weights):
+    """What next_way tells of what the report, which always has the same net, heard."""
+    if report.sight.unseen(weights) is None:
         return ("sure",)
-    # A further way makes the weights exactly if it shows, of all that the readings hide, what the weights show.
-    _, tops = in_integers(weights)
-    much = worth_of(tops, shown)
-    alike = []
-    for one in report.sight.hidden:
-        little = worth_of(tops, one)
-        alike.append([much * part - little * other for part, other in zip(one, shown)])
-    for way, row in walked(net):
-        if sum_along(row, shown) != 0 and not any([sum_along(row, one) for one in alike]):
-            return ("way", way)
-    return ("more",)
+    if report.ahead is None:
+        report.ahead = Ahead(net, report.sight.hidden)
+    way = report.ahead.way_for(weights)
+    return ("more",) if way is None else ("way", way)

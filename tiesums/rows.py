@@ -40,6 +40,11 @@ def made(rows, numbers, many):
     return tuple([cut(top, low) for top in found])
 
 
+def counted(row, many):
+    """The weights of so many ties that this row makes by itself."""
+    return tuple([ONE if tie in row else ZERO for tie in range(many)])
+
+
 def apart(difference):
     """(costs, others): two costs, the others above the first ones by this difference."""
     return (ONE,) * len(difference), tuple([(1 + one, 1) for one in difference])
@@ -57,7 +62,28 @@ def levelled(difference, little, shown, much):
     divisor = 0
     for one in left:
         divisor = gcd(divisor, one)
+        if divisor == 1:
+            return left
     return [one // divisor for one in left] if divisor > 1 else left
+
+
+def first_of(found):
+    """Where the first number stands that is not 0."""
+    at = 0
+    while found[at] == 0:
+        at += 1
+    return at
+
+
+def cleared(some, found):
+    """What is left of some differences, without the first one that counts, so that none counts any more.
+
+    found: what each of them counts.
+    """
+    at = first_of(found)
+    shown, much = some[at], found[at]
+    rest = [(one, little) for other, (one, little) in enumerate(zip(some, found)) if other != at]
+    return [levelled(one, little, shown, much) for one, little in rest]
 
 
 class Sight:
@@ -70,21 +96,22 @@ class Sight:
 
     def __init__(self, many):
         self.taken = []
-        self.hidden = [[1 if tie == other else 0 for other in range(many)] for tie in range(many)]
+        self.hidden = [[0] * tie + [1] + [0] * (many - tie - 1) for tie in range(many)]
+
+    def copy(self):
+        """Another one, alike, that looks on by itself."""
+        other = Sight(0)
+        other.taken, other.hidden = list(self.taken), self.hidden
+        return other
 
     def look(self, name, row):
-        """Looks along one row more."""
+        """Looks along one row more, and tells whether it is taken."""
         found = [sum([one[tie] for tie in row]) for one in self.hidden]
         if not any(found):
-            return
-        at = 0
-        while found[at] == 0:
-            at += 1
-        shown, much = self.hidden[at], found[at]
-        self.taken.append((name, row, shown))
-        rest = list(zip(self.hidden, found))
-        del rest[at]
-        self.hidden = [levelled(one, little, shown, much) for one, little in rest]
+            return False
+        self.taken.append((name, row, self.hidden[first_of(found)]))
+        self.hidden = cleared(self.hidden, found)
+        return True
 
     def hides(self, difference):
         """Whether all rows hide the difference."""
@@ -92,6 +119,8 @@ class Sight:
 
     def unseen(self, weights):
         """A hidden difference whose worth by the weights is not 0. None if there is none: then rows make them."""
+        if len(self.hidden) == 0:
+            return None
         _, tops = in_integers(weights)
         for difference in self.hidden:
             if worth_of(tops, difference) != 0:
@@ -114,3 +143,42 @@ class Sight:
                     left[tie] -= number
                 found.append((name, cut(number, low)))
         return tuple(found[::-1])
+
+    def alone(self):
+        """(name, difference, much) for each taken row, in their sequence.
+
+        Of all of them it alone shows the difference, which comes to much along it.
+        """
+        found = []
+        # All rows ahead of a taken one hide its difference; what those behind it see of it is taken away.
+        for name, row, difference in reversed(self.taken):
+            for _, other, shown, much in found:
+                difference = levelled(difference, sum_along(other, difference), shown, much)
+            found.append((name, row, difference, sum_along(row, difference)))
+        return [(name, difference, much) for name, _, difference, much in reversed(found)]
+
+
+class Maker:
+    """Tells how the rows that a sight of so many ties took make other rows. It pays if many are asked."""
+
+    def __init__(self, sight, many):
+        shown = sight.alone()
+        self.names = [name for name, _, _ in shown]
+        self.low = 1
+        for _, _, much in shown:
+            self.low = lcm(self.low, much)
+        # How often a row needs each of the taken ones, as it goes along this tie, if the low-th part counts as 1.
+        self.tops = [[difference[tie] * (self.low // much) for _, difference, much in shown] for tie in range(many)]
+        self.numbers = {}
+
+    def making(self, row):
+        """What making of the sight tells of the weights that this row makes by itself."""
+        some = [self.tops[tie] for tie in row]
+        found = [sum(tops) for tops in zip(*some)]
+        return tuple([(name, self._number(top)) for name, top in zip(self.names, found) if top != 0])
+
+    def _number(self, top):
+        # The same few numbers come again and again.
+        if top not in self.numbers:
+            self.numbers[top] = cut(top, self.low)
+        return self.numbers[top]

@@ -2,8 +2,9 @@
 
 from tiesums.errors import BadNumber, BadWay, Full, NoTrial, NothingToRedo, NothingToUndo, Torn
 from tiesums.fractions import is_integer
-from tiesums.readings import MOST_READINGS, fitting, known, next_way, reckoned, shows_reckoned
-from tiesums.ways import is_way
+from tiesums.readings import MOST_READINGS, Report, known_of, next_of, reckoned_of, shows_reckoned_of
+from tiesums.told import need_weights
+from tiesums.ways import is_way, row_of
 
 
 class Trial:
@@ -25,6 +26,7 @@ class Trial:
         self.done = survey.done
         self.steps = survey.steps
         self.undone = survey.undone
+        self.report = survey.report
         survey.inner = self
         return survey
 
@@ -37,13 +39,15 @@ class Trial:
             survey.done = self.done
             survey.steps = self.steps
             survey.undone = self.undone
+            survey.report = self.report
 
 
 class Survey:
     """A survey of a net: the readings that stand, which never contradict each other, and the deeds that led there.
 
-    steps: (deed, net, readings) for each deed that stands, with the net and the readings behind it; undone: likewise
-    those that were taken back, the one that is to be done again first standing last; inner: the innermost trial.
+    steps: (deed, net, readings, report) for each deed that stands, with the net and the readings behind it and what
+    they show; undone: likewise those that were taken back, the one that is to be done again first standing last;
+    report: that of the last step; inner: the innermost trial.
     """
 
     def __init__(self, net):
@@ -53,29 +57,34 @@ class Survey:
         self.done = 0
         self.steps = ()
         self.undone = ()
+        self.report = Report(len(net))
         self.inner = None
 
     def __len__(self):
         return len(self.readings)
 
     def __eq__(self, other):
-        return isinstance(other, Survey) and self.first == other.first and self.steps == other.steps
+        return (isinstance(other, Survey) and self.first == other.first
+                and [step[0] for step in self.steps] == [step[0] for step in other.steps])
 
     def cost(self, weights):
         """What reckoned tells of the readings and the net now."""
-        return reckoned(self.net, self.readings, weights)
+        need_weights(self.net, weights)
+        return reckoned_of(self.report, weights)
 
     def shows_cost(self, weights, value):
         """Whether any value is such a result as cost tells."""
-        return shows_reckoned(self.net, self.readings, weights, value)
+        need_weights(self.net, weights)
+        return shows_reckoned_of(self.report, weights, value)
 
     def sure(self):
         """The ascending tuple of (number, worth) for all ties of which reckoned tells "sure"."""
-        return known(self.net, self.readings)
+        return known_of(self.report)
 
     def next(self, weights):
         """What next_way tells of the readings and the net now."""
-        return next_way(self.net, self.readings, weights)
+        need_weights(self.net, weights)
+        return next_of(self.net, self.report, weights)
 
     def read(self, way, amount):
         """The deed by which this reading stands behind the others."""
@@ -85,15 +94,16 @@ class Survey:
             raise BadNumber(amount)
         if len(self.readings) == MOST_READINGS:
             raise Full(MOST_READINGS)
-        readings = (*self.readings, (way, amount))
-        word, numbers = fitting(self.net, readings)
-        if word == "torn":
-            raise Torn(numbers)
-        self._do((("read", way, amount), self.net, readings))
+        report = self.report.copy()
+        report.hear(row_of(self.net, way), amount)
+        if report.torn is not None:
+            raise Torn(report.torn)
+        self._do((("read", way, amount), self.net, (*self.readings, (way, amount)), report))
 
     def watch(self, place):
         """The deed by which this place watches from now on."""
-        self._do((("watch", place), self.net.with_watcher(place), self.readings))
+        net = self.net.with_watcher(place)
+        self._do((("watch", place), net, self.readings, self.report.copy()))
 
     def undo(self):
         """Takes the last deed back that stands."""
@@ -136,9 +146,10 @@ class Survey:
         self._stand((*self.steps, step), ())
 
     def _stand(self, steps, undone):
-        self.net, self.readings = self.first, ()
         if len(steps) > 0:
-            _, self.net, self.readings = steps[-1]
+            _, self.net, self.readings, self.report = steps[-1]
+        else:
+            self.net, self.readings, self.report = self.first, (), Report(len(self.first))
         self.done = len(steps)
         self.steps = steps
         self.undone = undone

@@ -1,14 +1,17 @@
 """Which ties, and which weights of ties, the sums of all ways tell, and why."""
 
 from tiesums.errors import BadWeights, NoTie
-from tiesums.fractions import ONE, is_fraction, is_integer, total
-from tiesums.rows import ZERO, Sight, apart, made
-from tiesums.ways import are_alike, are_ascending_ways, are_costs, row_of, sight_of
+from tiesums.fractions import is_fraction, is_integer, total
+from tiesums.rows import ZERO, Sight, apart, counted, in_integers, made, sum_along
+from tiesums.ways import are_alike, are_ascending_ways, are_costs, is_way, row_of, sight_of
+
+# Numbers with more different lows than these would make too great integers of all together.
+MOST_LOWS = 6
 
 
 def weights_of(net, number):
     """Those by which the worth is the cost of the tie of this number."""
-    return tuple([ONE if at == number else ZERO for at in range(len(net))])
+    return counted((number,), len(net))
 
 
 def need_weights(net, weights):
@@ -23,22 +26,57 @@ def need_tie(net, tie):
         raise NoTie(tie)
 
 
-def _are_signed(net, value):
+def _are_terms(value):
+    """Whether any value is a tuple of (tuple of strings, fraction)."""
     if not isinstance(value, tuple):
         return False
-    if not all([isinstance(row, tuple) and len(row) == 2 for row in value]):
-        return False
-    if not all([is_fraction(number) and number != ZERO for way, number in value]):
-        return False
-    return are_ascending_ways(net, tuple([way for way, number in value]))
+    for term in value:
+        if not isinstance(term, tuple) or len(term) != 2:
+            return False
+        way, number = term
+        if not isinstance(way, tuple) or not is_fraction(number) or not all([isinstance(place, str) for place in way]):
+            return False
+    return True
+
+
+def _are_signed(net, terms):
+    """Whether terms, perhaps those of several rows, are such as signed ways have."""
+    return all([number != ZERO and is_way(net, way) for way, number in terms])
+
+
+def _are_ascending(terms):
+    return all([term[0] < behind[0] for term, behind in zip(terms, terms[1:])])
 
 
 def make(net, value, weights):
     """Whether any value is signed ways that make these weights."""
-    if not _are_signed(net, value):
+    if not _are_terms(value) or not _are_signed(net, value) or not _are_ascending(value):
         return False
     rows = [row_of(net, way) for way, number in value]
     return made(rows, [number for way, number in value], len(net)) == weights
+
+
+def make_all(net, value, wanted):
+    """Whether any value is a tuple of signed ways for each of some rows, in sequence, that make just their ties."""
+    if not isinstance(value, tuple) or len(value) != len(wanted) or not all([_are_terms(row) for row in value]):
+        return False
+    # Most rows have the same terms, so that each is looked at just once.
+    terms = list({term: True for row in value for term in row})
+    if not _are_signed(net, terms) or not all([_are_ascending(row) for row in value]):
+        return False
+    if len(set([number[1] for way, number in terms])) > MOST_LOWS:
+        return all([make(net, row, counted(wish, len(net))) for row, wish in zip(value, wanted)])
+    return _sums_make(net, value, terms, wanted)
+
+
+def _sums_make(net, value, terms, wanted):
+    low, tops = in_integers([number for way, number in terms])
+    # All weights as one integer: each has bits of its own, more of them than all terms together can fill.
+    width = (sum([abs(top) for top in tops]) + low).bit_length() + 1
+    ones = [1 << width * tie for tie in range(len(net))]
+    worths = {term: top * sum_along(row_of(net, term[0]), ones) for term, top in zip(terms, tops)}
+    found = [sum([worths[term] for term in row]) for row in value]
+    return found == [low * sum_along(row, ones) for row in wanted]
 
 
 def told(net, weights):
@@ -106,17 +144,10 @@ def shows_whole(net, value):
     if not isinstance(value, tuple):
         return False
     if len(value) == 2 and value[0] == "all":
-        return make_all(net, value[1], [weights_of(net, number) for number in range(len(net))])
+        return make_all(net, value[1], [(number,) for number in range(len(net))])
     if len(value) == 4 and value[0] == "not" and is_integer(value[1]) and 0 <= value[1] < len(net):
         return tell_apart(net, weights_of(net, value[1]), value[2], value[3])
     return False
-
-
-def make_all(net, value, wanted):
-    """Whether any value is a tuple of signed ways for each of some weights, in their sequence, that make them."""
-    if not isinstance(value, tuple) or len(value) != len(wanted):
-        return False
-    return all([make(net, row, weights) for row, weights in zip(value, wanted)])
 
 
 def base(net):

@@ -5,50 +5,109 @@ from tiesums.fractions import are_fractions, cut
 from tiesums.rows import Sight, in_integers, sum_along
 
 
-class Walk:
-    """Goes all ways of a net, one at a time, ascending."""
+def _onward(net):
+    """For each place (place, its bit, number of the tie) for all that are tied to it, the last one by letters first."""
+    bits = {place: 1 << at for at, place in enumerate(net.places)}
+    onward = {place: [] for place in net.places}
+    for (place, other), number in sorted(list(net.numbers.items()), reverse=True):
+        onward[place].append((other, bits[other], number))
+    return onward
 
-    def __init__(self, net):
-        self.onward = {place: [] for place in net.places}
-        for (place, other), number in sorted(list(net.numbers.items()), reverse=True):
-            self.onward[place].append((other, number))
-        # A way leads to a watcher that stands behind the one at which it begins.
-        self.ends = {place: net.watchers[at:] for at, place in enumerate(net.watchers, start=1)}
-        # What was put here last is gone on with first, so what stands ahead by its letters is put here last.
-        self.paths = [((place,), ()) for place in sorted(net.watchers[:-1], reverse=True)]
 
-    def step(self):
-        """(way, row) for the next way, its ties numbered in the row as it goes along them. None if there is none."""
-        while len(self.paths) > 0:
-            path, row = self.paths.pop()
-            for place, number in self.onward[path[-1]]:
-                if place not in path:
-                    self.paths.append(((*path, place), (*row, number)))
-            if path[-1] in self.ends[path[0]]:
-                return path, row
-        return None
+def _beginnings(net):
+    """(place, its bit, ends) for each place at which ways begin, by letters: ends are those to which they can lead."""
+    bits = [1 << net.places.index(place) for place in net.watchers]
+    # A way leads to a watcher that stands behind the one at which it begins.
+    return sorted([(place, bits[at], sum(bits[at + 1:])) for at, place in enumerate(net.watchers[:-1])])
+
+
+def going(net):
+    """Yields (way, row) for all ways, ascending, the ties numbered in the row as the way goes along them."""
+    if net.walked is not None:
+        yield from list(net.walked.items())
+        return
+    onward = _onward(net)
+    for start, first, ends in _beginnings(net):
+        paths = [((start,), (), first, first, ends)]
+        while len(paths) > 0:
+            path, row, here, seen, left = paths.pop()
+            if left & here:
+                yield path, row
+                left ^= here
+            # What was put here last is gone on with first: this is why places stand onward as they do.
+            if left:
+                for place, bit, number in onward[path[-1]]:
+                    if not seen & bit:
+                        paths.append(((*path, place), (*row, number), bit, seen | bit, left))
 
 
 def walked(net):
-    """The list of (way, row) for all ways, ascending."""
+    """The dict of the rows of all ways, by the ways, ascending."""
     # Kept with the net, which never changes, as this is asked again and again.
     if net.walked is None:
-        walk, found = Walk(net), []
-        while (step := walk.step()) is not None:
-            found.append(step)
-        net.walked = found
+        net.walked = dict(going(net))
     return net.walked
+
+
+def _unwatched(net):
+    """(around, met, out) for each lot in which nobody watches, as masks.
+
+    around: the places outside that are tied to it; met: the ties that meet it; out: those that lead out of it.
+    """
+    found = [(0, 0, 0, 0)]
+    for at, place in enumerate(net.places):
+        if place not in net.watchers:
+            near = sum([1 << other for other, name in enumerate(net.places) if (place, name) in net.numbers])
+            ties = sum([1 << number for number, tie in enumerate(net.ties) if place in tie])
+            found = found + [(lot | 1 << at, around | near, met | ties, out ^ ties) for lot, around, met, out in found]
+    return [(around & ~lot, met, out) for lot, around, met, out in found]
+
+
+def _bent(net):
+    """Masks of ties: for each of them all ways hide a difference that is odd at just these ties."""
+    found = []
+    for around, met, out in _unwatched(net):
+        # Each time without the lowest bit.
+        second = around & (around - 1)
+        third = second & (second - 1)
+        if second == 0:
+            # No way goes along these ties at all: it could not get out again.
+            found.extend([1 << number for number in range(len(net)) if met & 1 << number])
+        elif third == 0:
+            # What comes in by the one place leaves by the other one: if in costs one more, out costs one less.
+            found.append(out)
+    return found
+
+
+def _surely_hidden(net):
+    """How many differences at least all ways hide, none of them made of the others."""
+    found = []
+    for mask in _bent(net):
+        for one in found:
+            mask = min(mask, mask ^ one)
+        if mask != 0:
+            found.append(mask)
+    return len(found)
+
+
+def _looked(net):
+    many, least = len(net), 0
+    sight = Sight(many)
+    for at, (way, row) in enumerate(going(net)):
+        # Most nets with few ways are through ahead of this.
+        if at == many:
+            least = _surely_hidden(net)
+        sight.look(way, row)
+        # As soon as no more than this is hidden no further way shows more.
+        if len(sight.hidden) == least:
+            break
+    return sight
 
 
 def sight_of(net):
     """What all ways show."""
     if net.sight is None:
-        walk, sight = Walk(net), Sight(len(net))
-        # As soon as nothing is hidden no further way shows more.
-        while len(sight.hidden) > 0 and (step := walk.step()) is not None:
-            way, row = step
-            sight.look(way, row)
-        net.sight = sight
+        net.sight = _looked(net)
     return net.sight
 
 
@@ -59,13 +118,13 @@ def row_of(net, way):
 
 def is_way(net, value):
     """Whether any value is a way of the net."""
-    if not isinstance(value, tuple) or not 2 <= len(value) <= len(net.places):
+    if not isinstance(value, tuple) or not all([isinstance(place, str) for place in value]):
         return False
-    if not all([isinstance(place, str) for place in value]) or len(set(value)) != len(value):
+    if net.walked is not None:
+        return value in net.walked
+    if len(value) < 2 or len(set(value)) != len(value):
         return False
-    if value[0] not in net.watchers or value[-1] not in net.watchers:
-        return False
-    if net.places.index(value[0]) > net.places.index(value[-1]):
+    if value[0] not in net.watchers or value[-1] not in net.watchers[net.watchers.index(value[0]):]:
         return False
     return all([step in net.numbers for step in zip(value, value[1:])])
 
@@ -92,7 +151,7 @@ def are_alike(net, costs, others):
 
 def ways(net):
     """The ascending tuple of all ways."""
-    return tuple([way for way, row in walked(net)])
+    return tuple(walked(net))
 
 
 def along(net, way):
@@ -107,4 +166,4 @@ def sums(net, costs):
     if not are_costs(net, costs):
         raise BadCosts(costs)
     low, tops = in_integers(costs)
-    return tuple([cut(sum_along(row, tops), low) for way, row in walked(net)])
+    return tuple([cut(sum_along(row, tops), low) for row in walked(net).values()])

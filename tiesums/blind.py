@@ -5,20 +5,28 @@ from tiesums.nets import in_sequence
 from tiesums.rows import apart
 from tiesums.ways import are_alike
 
+
 class Plan:
-    """Lots of places of a net as masks, integers with a bit for each place, so that many can be asked after."""
+    """Lots of places of a net as masks, integers with a bit for each place, so that many can be asked after.
+
+    seen: what tied tells of the masks that were looked at; known: what all_lots tells, None until it is asked.
+    """
 
     def __init__(self, net):
-        self.places = net.places
         self.bits = {place: 1 << at for at, place in enumerate(net.places)}
         self.near = {place: 0 for place in net.places}
         for one, other in net.ties:
             self.near[one] |= self.bits[other]
             self.near[other] |= self.bits[one]
-        bits = [0] + list(self.bits.values())
-        # All masks of as few places as may be around a part.
-        self.few = {one | other: True for one in bits for other in bits}
         self.seen = {}
+        self.known = None
+
+    def all_lots(self):
+        """(lots, parts): (lot, mask) for all lots, and for all parts, ascending."""
+        if self.known is None:
+            lots = self.lots(list(self.bits))
+            self.known = (lots, self.parts(lots))
+        return self.known
 
     def lots(self, places):
         """(lot, mask) for all lots of some places, in sequence, () among them."""
@@ -26,12 +34,18 @@ class Plan:
         for place in places:
             bit, near = self.bits[place], self.near[place]
             found = found + [((*lot, place), mask | bit, more | near) for lot, mask, more in found]
-        self.seen = {mask: more for _, mask, more in found}
+        self.seen.update({mask: more for _, mask, more in found})
         return [(lot, mask) for lot, mask, _ in found]
 
     def mask_of(self, lot):
         """The mask of a lot."""
         return sum([self.bits[place] for place in lot])
+
+    def around(self, lot):
+        """The lot of all places outside of the lot that are tied to places of it."""
+        mask = self.mask_of(lot)
+        more = self.tied(mask) & ~mask
+        return tuple([place for place, bit in self.bits.items() if bit & more])
 
     def parts(self, lots):
         """Those (lot, mask) of some that are parts, ascending."""
@@ -50,7 +64,11 @@ class Plan:
     def is_part(self, mask):
         """Whether the lot of this mask is a part."""
         tied = self.tied(mask)
-        return tied != 0 and tied & ~mask in self.few and self._hangs_together(mask)
+        around = tied & ~mask
+        # Each time without its lowest bit: of two bits at most nothing is left.
+        around &= around - 1
+        around &= around - 1
+        return tied != 0 and around == 0 and self._hangs_together(mask)
 
     def _hangs_together(self, mask):
         # From one place of the lot to all that ties among its places lead to.
@@ -59,6 +77,13 @@ class Plan:
             reached = more
             more = reached | self.tied(reached) & mask
         return reached == mask
+
+
+def plan_of(net):
+    """The plan of the net, made once."""
+    if net.plan is None:
+        net.plan = Plan(net)
+    return net.plan
 
 
 def is_lot(net, value):
@@ -71,16 +96,10 @@ def meets(lot, places):
     return any([place in lot for place in places])
 
 
-def _around(net, lot):
-    """The lot of all places outside of the lot that are tied to places of it."""
-    ends = [place for tie in net.ties if meets(lot, tie) for place in tie]
-    return tuple([place for place in net.places if place in ends and place not in lot])
-
-
 def _is_part(net, value):
     if not is_lot(net, value):
         return False
-    plan = Plan(net)
+    plan = plan_of(net)
     return plan.is_part(plan.mask_of(value))
 
 
@@ -90,25 +109,25 @@ def _is_blind(net, value):
 
 def parts(net):
     """The ascending tuple of all parts."""
-    plan = Plan(net)
-    return tuple([lot for lot, mask in plan.parts(plan.lots(net.places))])
+    _, found = plan_of(net).all_lots()
+    return tuple([lot for lot, mask in found])
 
 
 def edge(net, lot):
     """The lot of the places outside of the part that are tied to places of it."""
     if not _is_part(net, lot):
         raise BadPart(lot)
-    return _around(net, lot)
+    return plan_of(net).around(lot)
 
 
 def blind(net):
     """("blind", lot, edge) with a blind part, or ("none",)."""
-    plan = Plan(net)
+    plan = plan_of(net)
     found = plan.parts(plan.lots([place for place in net.places if place not in net.watchers]))
     if len(found) == 0:
         return ("none",)
     lot, _ = found[0]
-    return ("blind", lot, _around(net, lot))
+    return ("blind", lot, plan.around(lot))
 
 
 def shows_blind(net, value):
@@ -117,7 +136,7 @@ def shows_blind(net, value):
         return blind(net) == ("none",)
     if not isinstance(value, tuple) or len(value) != 3 or value[0] != "blind":
         return False
-    return _is_blind(net, value[1]) and value[2] == _around(net, value[1])
+    return _is_blind(net, value[1]) and value[2] == plan_of(net).around(value[1])
 
 
 def _need_blind(net, lot):
@@ -137,7 +156,7 @@ def _bend(lot, ends, tie):
 def bent(net, lot):
     """(costs, others): two costs that no sum tells apart, as nobody watches in this part."""
     _need_blind(net, lot)
-    ends = _around(net, lot)
+    ends = plan_of(net).around(lot)
     return apart([_bend(lot, ends, tie) for tie in net.ties])
 
 
@@ -146,7 +165,7 @@ def shows_bent(net, lot, value):
     _need_blind(net, lot)
     if not isinstance(value, tuple) or len(value) != 2 or not are_alike(net, value[0], value[1]):
         return False
-    ends = _around(net, lot)
+    ends = plan_of(net).around(lot)
     unlike = [tie for tie, one, other in zip(net.ties, value[0], value[1]) if one != other]
     if len(ends) == 2:
         return unlike == [tie for tie in net.ties if meets(lot, tie) and meets(ends, tie)]

@@ -77,9 +77,10 @@ class Net:
         self.numbers = _read_ties(lines[2:], self.places)
         # Each tie is there twice, first as it is written.
         self.ties = tuple(list(self.numbers)[::2])
-        # What ways.py finds out about the net when it is asked for the first time.
+        # What ways.py and blind.py find out about the net when it is asked for the first time.
         self.walked = None
         self.sight = None
+        self.plan = None
 
     def __eq__(self, other):
         return isinstance(other, Net) and self.text == other.text

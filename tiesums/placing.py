@@ -1,6 +1,6 @@
 """Who has to watch so that all ties are told, and what one watcher more would tell."""
 
-from tiesums.blind import Plan, is_lot
+from tiesums.blind import is_lot, plan_of
 from tiesums.told import sure_ties
 
 
@@ -16,20 +16,31 @@ def _lots_of(lots, size):
     return sorted([(lot, mask) for lot, mask in lots if len(lot) == size])
 
 
+def _smallest(found):
+    """The masks of those parts in which no smaller one lies."""
+    smallest = []
+    for _, bits in sorted([(len(part), bits) for part, bits in found]):
+        if not any([bits & one == one for one in smallest]):
+            smallest.append(bits)
+    return smallest
+
+
 def _fewest(lots, found):
     """The first lot of as few places as can be that misses no part: these places, watching, tell all ties."""
-    # Most lots miss one of the smallest parts.
-    for _, bits in sorted([(len(part), bits) for part, bits in found]):
-        lots = [(lot, mask) for lot, mask in lots if mask & bits != 0]
-    _, first = min([(len(lot), lot) for lot, mask in lots])
+    smallest = _smallest(found)
+    size, able = 0, []
+    while len(able) == 0:
+        size += 1
+        able = [(lot, mask) for lot, mask in lots if len(lot) == size]
+        for bits in smallest:
+            able = [(lot, mask) for lot, mask in able if mask & bits != 0]
+    first, _ = min(able)
     return first
 
 
 def least(net):
     """(lot, reasons): as few places as can be that tell all ties, and for each lesser lot a part that it misses."""
-    plan = Plan(net)
-    lots = plan.lots(net.places)
-    found = plan.parts(lots)
+    lots, found = plan_of(net).all_lots()
     chosen = _fewest(lots, found)
     return (chosen, tuple([(lot, _missed(found, mask)) for lot, mask in _lots_of(lots, len(chosen) - 1)]))
 
@@ -39,22 +50,21 @@ def shows_least(net, value):
     if not isinstance(value, tuple) or len(value) != 2 or not is_lot(net, value[0]):
         return False
     lot, reasons = value
-    plan = Plan(net)
-    lots = plan.lots(net.places)
+    lots, found = plan_of(net).all_lots()
     lesser = _lots_of(lots, len(lot) - 1)
     if not isinstance(reasons, tuple) or len(reasons) != len(lesser):
         return False
-    found = {part: mask for part, mask in plan.parts(lots)}
-    if _missed(list(found.items()), plan.mask_of(lot)) is not None:
+    if _missed(found, plan_of(net).mask_of(lot)) is not None:
         return False
-    return all([_shows_reason(net, found, other, reason) for other, reason in zip(lesser, reasons)])
+    parts = {part: mask for part, mask in found}
+    return all([_shows_reason(net, parts, other, reason) for other, reason in zip(lesser, reasons)])
 
 
-def _shows_reason(net, found, lesser, value):
+def _shows_reason(net, parts, lesser, value):
     lot, mask = lesser
     if not isinstance(value, tuple) or len(value) != 2 or value[0] != lot:
         return False
-    return is_lot(net, value[1]) and value[1] in found and found[value[1]] & mask == 0
+    return is_lot(net, value[1]) and value[1] in parts and parts[value[1]] & mask == 0
 
 
 def gains(net):

@@ -3,8 +3,9 @@
 from math import gcd
 
 from tiesums.errors import BadReadings, Torn
-from tiesums.fractions import are_fractions, cut, is_fraction, is_integer, total
-from tiesums.rows import MINUS_ONE, ZERO, Sight, cleared, counted, in_integers, made, sum_along, worth_of
+from tiesums.fractions import are_fractions, cut, is_fraction, is_integer
+from tiesums.rows import (
+    MINUS_ONE, ZERO, Sight, cleared, counted, difference_of, in_integers, made, sum_along, worth_of)
 from tiesums.told import need_weights
 from tiesums.ways import is_way, row_of, walked
 
@@ -82,16 +83,16 @@ class Report:
 
     def hear(self, row, amount):
         """Hears a reading of a way along this row behind the others."""
-        if self.torn is not None:
-            self.torn = (*self.torn, ZERO)
+        taken = self.sight.look(len(self.rows), row)
+        if self.torn is None:
+            self._fit(row, amount, taken)
         else:
-            self._fit(row, amount)
+            self.torn = (*self.torn, ZERO)
         self.rows.append(row)
         self.amounts.append(amount)
 
-    def _fit(self, row, amount):
+    def _fit(self, row, amount, taken):
         wanted = amount * self.low - sum_along(row, self.tops)
-        taken = self.sight.look(len(self.rows), row)
         if wanted != 0 and taken:
             self._add(row, self.sight.taken[-1][2], wanted)
         elif wanted != 0:
@@ -219,7 +220,8 @@ def shows_reckoned_of(report, weights, value):
         return is_fraction(value[1]) and value[1] == report.worth(weights) and _make(report, value[2], weights)
     if value[0] != "open" or not _fit(report, value[1]) or not _fit(report, value[2]):
         return False
-    return total(value[1], weights) != total(value[2], weights)
+    _, tops = in_integers(weights)
+    return worth_of(tops, difference_of(value[1], value[2])) != 0
 
 
 def known_of(report):
@@ -228,29 +230,26 @@ def known_of(report):
     return tuple([(tie, cost) for tie, cost in enumerate(costs) if not any([one[tie] for one in hidden])])
 
 
-def _rings(many, rows):
-    """Lists of integers, as few as can be: numbers of the rows that make weights of so many ties that are all 0.
+def _rings(report):
+    """Lists of integers, as few as can be: numbers of the readings that make nothing, of which all others are made.
 
-    Of these all others are made that do.
+    Behind these numbers each has what the sums, each times its number, come to.
     """
-    sight, found = Sight(many), []
-    for at, row in enumerate(rows):
-        if not sight.look(at, row):
-            terms = sight.making(counted(row, many))
+    taken, found = [name for name, _, _ in report.sight.taken], []
+    for at, row in enumerate(report.rows):
+        if at not in taken:
+            terms = report.sight.making(counted(row, len(report.tops)))
             low, tops = in_integers([number for name, number in terms])
-            ring = [0] * len(rows)
+            ring = [0] * len(report.rows)
             for (name, _), top in zip(terms, tops):
                 ring[name] = top
             ring[at] = -low
-            found.append(ring)
+            found.append([*ring, worth_of(ring, report.amounts)])
     return found
 
 
 def _conflicts(rings, left):
-    """Masks of readings, none of them left out, that cannot be right together. [] if all others can be.
-
-    Each ring has behind its numbers what the sums, each times its number, come to.
-    """
+    """Masks of readings, none of them left out, that cannot be right together. [] if all others can be."""
     for at in left:
         found = [ring[at] for ring in rings]
         if any(found):
@@ -262,10 +261,11 @@ def _mask(numbers):
     return sum([1 << at for at, number in enumerate(numbers) if number != 0])
 
 
-def _left_out(net, readings):
+def _left_out(report):
     """The numbers of as few readings as can be without which some costs fit, the first ones of several such."""
-    rows, amounts = [row_of(net, way) for way, amount in readings], [amount for way, amount in readings]
-    rings = [[*ring, worth_of(ring, amounts)] for ring in _rings(len(net), rows)]
+    if report.torn is None:
+        return ()
+    rings = _rings(report)
     conflicts, several = [], [((), 0)]
     while True:
         # One reading of each conflict has to be left out, so most that leave one as it is need no look.
@@ -277,7 +277,7 @@ def _left_out(net, readings):
                 return left
             conflicts.extend(found)
             able = _meeting(able, found)
-        several = _longer(several, len(readings), conflicts)
+        several = _longer(several, len(report.rows), conflicts)
 
 
 def _meeting(several, conflicts):
@@ -302,8 +302,11 @@ def _rest(readings, left):
 def mended(net, readings):
     """(left, costs): which readings, as few as can be, are left out, and costs that fit all others."""
     _need_readings(net, readings)
-    left = _left_out(net, readings)
-    return (left, _heard(net, _rest(readings, left)).costs())
+    report = _heard(net, readings)
+    left = _left_out(report)
+    if len(left) > 0:
+        report = _heard(net, _rest(readings, left))
+    return (left, report.costs())
 
 
 def shows_mended(net, readings, value):
@@ -314,7 +317,8 @@ def shows_mended(net, readings, value):
     left, costs = value
     if not all([is_integer(at) for at in left]) or not _fit(_heard(net, _rest(readings, left)), costs):
         return False
-    return left == _left_out(net, readings)
+    # If all of them fit, none is to be left out.
+    return len(left) == 0 or left == _left_out(_heard(net, readings))
 
 
 def next_way(net, readings, weights):

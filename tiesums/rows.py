@@ -50,6 +50,12 @@ def apart(difference):
     return (ONE,) * len(difference), tuple([(1 + one, 1) for one in difference])
 
 
+def difference_of(costs, others):
+    """What the others are above the costs, times some integer above 0."""
+    _, tops = in_integers((*costs, *others))
+    return [other - one for one, other in zip(tops, tops[len(costs):])]
+
+
 def levelled(difference, little, shown, much):
     """What is left of a difference so that it does not count any more where it counts little, and the shown one much.
 

@@ -1,9 +1,9 @@
 """Which ties, and which weights of ties, the sums of all ways tell, and why."""
 
 from tiesums.errors import BadWeights, NoTie
-from tiesums.fractions import is_fraction, is_integer, total
-from tiesums.rows import ZERO, Sight, apart, counted, in_integers, made, sum_along
-from tiesums.ways import are_alike, are_ascending_ways, are_costs, is_way, row_of, sight_of
+from tiesums.fractions import is_fraction, is_integer
+from tiesums.rows import ZERO, Sight, apart, counted, difference_of, in_integers, made, sum_along, worth_of
+from tiesums.ways import are_ascending_ways, are_costs, is_way, row_of, sight_of
 
 # Numbers with more different lows than these would make too great integers of all together.
 MOST_LOWS = 6
@@ -104,7 +104,11 @@ def shows_told(net, weights, value):
 
 def tell_apart(net, weights, costs, others):
     """Whether two values of any kind are costs that no sum tells apart, but whose worths are unlike."""
-    return are_alike(net, costs, others) and total(costs, weights) != total(others, weights)
+    if not are_costs(net, costs) or not are_costs(net, others):
+        return False
+    difference = difference_of(costs, others)
+    _, tops = in_integers(weights)
+    return worth_of(tops, difference) != 0 and sight_of(net).hides(difference)
 
 
 def tie_told(net, tie):

@@ -2,7 +2,7 @@
 
 from tiesums.errors import BadCosts, BadWay
 from tiesums.fractions import are_fractions, cut
-from tiesums.rows import Sight, in_integers, sum_along
+from tiesums.rows import Sight, difference_of, in_integers, sum_along
 
 
 def _onward(net):
@@ -145,8 +145,7 @@ def are_alike(net, costs, others):
     """Whether two values of any kind are costs by which all ways have the same sums."""
     if not are_costs(net, costs) or not are_costs(net, others):
         return False
-    _, tops = in_integers((*costs, *others))
-    return sight_of(net).hides([other - one for one, other in zip(tops, tops[len(net):])])
+    return sight_of(net).hides(difference_of(costs, others))
 
 
 def ways(net):

@@ -5,7 +5,7 @@ import itertools
 import random
 import unittest
 
-from plain import all_nets, costs_of, dependences, drawn_nets, joined, net_of, unit
+from plain import all_nets, costs_of, dependences, drawn_net, drawn_nets, joined, net_of, rank, unit
 from samples import NETS, Checks, any_values, raised
 from tiesums.beside import alike, shows_within, within
 from tiesums.choosing import cheapest
@@ -14,8 +14,8 @@ from tiesums.failing import blame, groups, verdict
 from tiesums.nets import Net
 from tiesums.readings import fitting, mended, next_way, reckoned
 from tiesums.surveys import Survey
-from tiesums.told import shows_whole, whole
-from tiesums.ways import along, ways
+from tiesums.told import base, shows_base, shows_whole, sure_ties, whole
+from tiesums.ways import along, surely_hidden, ways
 
 EIGHT = "abcdefgh"
 TIES = "eh dh df bh fh gh ad cd bc cf bf ag ae de"
@@ -192,6 +192,52 @@ class AskedInAnySequence(Checks):
             self.check(survey.next(weights), next_way(fresh, survey.readings, weights))
             self.check(survey.cost(weights), reckoned(fresh, survey.readings, weights))
             self.assertEqual((number, survey.cost(weights)[1]) in survey.sure(), survey.cost(weights)[0] == "sure")
+
+
+def gone_rows(net):
+    """For each way a row with 1 for each of its ties, otherwise 0: gone place by place, plainly."""
+    found, paths = [], [[place] for place in net.watchers]
+    while paths:
+        path = paths.pop()
+        if path[-1] in net.watchers and net.places.index(path[-1]) > net.places.index(path[0]):
+            steps = [{one, other} for one, other in zip(path, path[1:])]
+            found.append([1 if set(tie) in steps else 0 for tie in net.ties])
+        paths += [path + [place] for place in net.places if place not in path
+                  and ((path[-1], place) in net.ties or (place, path[-1]) in net.ties)]
+    return found
+
+
+class Stops(Checks):
+    """Ways are gone only until no more is hidden than surely is, by blind parts: no way behind shows more."""
+
+    def check_all_is_seen(self, net):
+        rows = gone_rows(net)
+        many = rank(rows)
+        self.assertEqual(surely_hidden(net), len(net) - many, net.text)
+        self.assertEqual(len(base(net)), many, net.text)
+        self.check_right(shows_base, net, base(net))
+        sure = tuple(tie for tie in range(len(net)) if rank([*rows, [int(tie == at) for at in range(len(net))]]) == many)
+        self.check(sure_ties(net), sure)
+
+    def test_small_nets(self):
+        for net in [*all_nets(3), *itertools.islice(all_nets(4), 0, None, 5), *itertools.islice(all_nets(5), 0, None, 97)]:
+            self.check_all_is_seen(net)
+
+    def test_great_nets(self):
+        draw = random.Random("stops")
+        for _ in range(150):
+            size = draw.randint(6, 8)
+            self.check_all_is_seen(drawn_net(draw, size, draw.randint(size, 14), draw.randint(2, size)))
+
+    def test_long_blind_rows(self):
+        # Beside much of which all is told: rows of places in which nobody watches, rings, ends, and what stands alone.
+        for ties in ("ab bc ac ad bd cd de ef fg ag", "ab bc ac ad bd cd de ef df", "ab bc ac ad bd cd de ef eg",
+                     "ab bc ac ad bd cd ef fg eg", "ab bc ac ad bd cd de ae df bf ef", "ab bc ac ad bd cd de ef fg gd",
+                     "ab bc ac ad bd cd ae be ef ag bg", "ab bc ac ad bd cd ce cf ef de df",
+                     "ab bc ac ad bd cd de be ef bf fg eg"):
+            ties = [tuple(sorted(tie)) for tie in ties.split()]
+            for watchers in ("abcd", "abc", "abd", "abcdf", "abcdg", "ac", "ab"):
+                self.check_all_is_seen(net_of("abcdefg", watchers, ties))
 
 
 class Lows(Checks):

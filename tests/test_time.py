@@ -11,6 +11,7 @@ from samples import BOUNDS, NETS, Checks
 from tiesums.beside import alike, shows_alike, shows_within, within
 from tiesums.blind import bent, blind, edge, parts
 from tiesums.choosing import cheapest, shows_cheapest
+from tiesums.failing import blame, groups
 from tiesums.nets import Net
 from tiesums.placing import gains, least, shows_least
 from tiesums.readings import fitting, mended, next_way, reckoned, shows_mended
@@ -141,6 +142,60 @@ class Time(Checks):
                 self.check_right(shows_within, one, two, within(one, two))
                 self.check_right(shows_alike, one, two, alike(one, two))
         self.within_seconds(10, ask, [Net(net.text) for net in [*LONGEST, BOUNDS[0], BOUNDS[2]] * 8])
+
+    def test_nets_beside_one_another_with_few_watchers(self):
+        ties = [tuple(sorted(tie)) for tie in "eh dh df bh fh gh ad cd bc cf bf ag ae de".split()]
+        few, all_watch = net_of("abcdefgh", "cfg", ties), net_of("abcdefgh", "abcdefgh", ties)
+
+        def ask(net):
+            one, other = Net(few.text), Net(all_watch.text)
+            self.check_right(shows_within, one, other, within(one, other))
+            self.check_right(shows_alike, one, other, alike(one, other))
+        self.within_seconds(10, ask, [few] * 25)
+
+    def test_choices_none_of_which_is_enough(self):
+        ties = "cg ch ah bf eh gh bh de cf ae af".split()
+        net = net_of("abcdefgh", "abcfgh", [tuple(sorted(tie)) for tie in ties])
+        offers = (("tie", "a", "c", 4), ("tie", "c", "d", 6), ("tie", "f", "g", 6), ("tie", "f", "h", 6))
+
+        def ask(net):
+            value = cheapest(net, offers, (4, 6, 7))
+            self.assertEqual((value[0], len(value[1])), ("none", 15))
+            self.check_right(shows_cheapest, net, offers, (4, 6, 7), value)
+        self.within_seconds(10, ask, [Net(net.text) for _ in range(100)])
+
+    def test_failed_ways(self):
+        def ask(net):
+            groups(net)
+            failed = tuple(way for way in ways(net) if net.ties[0][0] in way and net.ties[0][1] in way)
+            blame(net, failed, 3)
+            blame(net, ways(net), 3)
+        self.within_seconds(10, ask, [Net(net.text) for net in [*LONGEST, *BOUNDS] * 20])
+
+    def test_readings_that_mostly_do_not_fit(self):
+        draw = random.Random("wrong")
+
+        def ask(net):
+            found = ways(net)
+            for many in (2, 5, len(found)):
+                readings = tuple((draw.choice(found[:many]), draw.randint(-9, 9)) for _ in range(10))
+                self.check_right(shows_mended, net, readings, mended(net, readings))
+        nine = net_of("abcdefgh", "bcfg", "ab bc cd de ef fg gh ah be")
+        self.within_seconds(10, ask, [nine] * 100)
+
+    def test_a_survey_asked_again_and_again(self):
+        draw = random.Random("again")
+
+        def ask(net):
+            survey = Survey(net)
+            costs = costs_of(*[draw.randint(1, 99) for _ in net.ties])
+            for way, worth in draw.sample(list(zip(ways(net), sums(net, costs))), 10):
+                survey.read(way, worth[0])
+                for number in range(len(net)):
+                    survey.next(unit(net, number))
+                    self.assertIs(survey.shows_cost(unit(net, number), survey.cost(unit(net, number))), True)
+                survey.sure()
+        self.within_seconds(10, ask, [Net(net.text) for net in [*LONGEST, *BOUNDS] * 5])
 
     def test_choices(self):
         draw = random.Random("choices")

@@ -79,7 +79,7 @@ def _bent(net):
     return found
 
 
-def _surely_hidden(net):
+def surely_hidden(net):
     """How many differences at least all ways hide, none of them made of the others."""
     found = []
     for mask in _bent(net):
@@ -96,7 +96,7 @@ def _looked(net):
     for at, (way, row) in enumerate(going(net)):
         # Most nets with few ways are through ahead of this.
         if at == many:
-            least = _surely_hidden(net)
+            least = surely_hidden(net)
         sight.look(way, row)
         # As soon as no more than this is hidden no further way shows more.
         if len(sight.hidden) == least:

@@ -211,17 +211,23 @@ class Stops(Checks):
     """Ways are gone only until no more is hidden than surely is, by blind parts: no way behind shows more."""
 
     def check_all_is_seen(self, net):
+        """And how much more is hidden than surely is."""
         rows = gone_rows(net)
         many = rank(rows)
-        self.assertEqual(surely_hidden(net), len(net) - many, net.text)
         self.assertEqual(len(base(net)), many, net.text)
         self.check_right(shows_base, net, base(net))
         sure = tuple(tie for tie in range(len(net)) if rank([*rows, [int(tie == at) for at in range(len(net))]]) == many)
         self.check(sure_ties(net), sure)
+        self.check(sure_ties(Net(net.text)), sure)
+        self.assertEqual(surely_hidden(net) == 0, len(net) == many, net.text)
+        return len(net) - many - surely_hidden(net)
+
+    def check_it_stops(self, net):
+        self.assertEqual(self.check_all_is_seen(net), 0, net.text)
 
     def test_small_nets(self):
         for net in [*all_nets(3), *itertools.islice(all_nets(4), 0, None, 5), *itertools.islice(all_nets(5), 0, None, 97)]:
-            self.check_all_is_seen(net)
+            self.check_it_stops(net)
 
     def test_great_nets(self):
         draw = random.Random("stops")
@@ -237,7 +243,16 @@ class Stops(Checks):
                      "ab bc ac ad bd cd de be ef bf fg eg"):
             ties = [tuple(sorted(tie)) for tie in ties.split()]
             for watchers in ("abcd", "abc", "abd", "abcdf", "abcdg", "ac", "ab"):
-                self.check_all_is_seen(net_of("abcdefg", watchers, ties))
+                self.check_it_stops(net_of("abcdefg", watchers, ties))
+
+    def test_more_is_hidden_than_surely_is(self):
+        # Here ways are gone to the last one.
+        for places, watchers, ties in (
+                ("c za m x y d", "m y", "c-m m-y c-za c-d x-y x-d za-x m-d za-y"),
+                ("za m y x b d c aa", "m x", "y-b m-d y-c x-aa x-b za-b za-y d-aa y-aa b-aa d-c m-c za-x m-x"),
+                ("b x y za d aa c m", "b x m", "aa-c za-d x-za y-c x-m za-c b-x x-d y-aa b-c b-aa y-d")):
+            pairs = [sorted(tie.split("-"), key=places.split().index) for tie in ties.split()]
+            self.assertEqual(self.check_all_is_seen(net_of(places.split(), watchers.split(), pairs)), 1)
 
 
 class Lows(Checks):

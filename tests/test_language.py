@@ -40,6 +40,10 @@ STATEMENTS = (
     ast.FunctionDef, ast.ClassDef, ast.ImportFrom, ast.Assign, ast.AugAssign, ast.AnnAssign, ast.If, ast.While,
     ast.For, ast.Return, ast.Break, ast.Continue, ast.Pass, ast.Raise, ast.Assert, ast.Delete, ast.Nonlocal,
     ast.Match, ast.With, ast.Try, ast.Expr)
+# What values of Python's own have as methods or attributes, and which of these names are free all the same.
+OF_BUILTINS = {name for kind in (str, int, list, tuple, dict, set, bytes) for name in dir(kind)}
+OWN_ATTRIBUTES = "count index title find get join lower upper split strip copy add".split()
+OWN_METHODS = METHODS[:METHODS.index("bit_length") + 1] + ["add", "discard"]
 USING_UP = "list tuple dict sorted sum any all enumerate zip min max".split()
 FREE_ERRORS = ("KeyError", "ZeroDivisionError", "StopIteration")
 LISTED_ERRORS = FREE_ERRORS + ("ValueError", "LookupError", "IndexError")
@@ -277,8 +281,14 @@ def rules_of_blocks(tree):
 
 
 def rules_of_classes(tree):
-    """L18: no name is a method and an attribute in one class."""
+    """L18: no name is a method and an attribute in one class. L26: what methods and attributes are called."""
+    for row in methods_of(tree):
+        if row.name in OF_BUILTINS and row.name not in OWN_METHODS and not row.name.startswith("__"):
+            yield "L26", row.lineno
     for node in ast.walk(tree):
+        if isinstance(node, ast.Attribute) and isinstance(node.ctx, ast.Store) and (
+                node.attr in OF_BUILTINS and node.attr not in OWN_ATTRIBUTES or node.attr in ("args", "format")):
+            yield "L26", node.lineno
         if isinstance(node, ast.ClassDef):
             methods = [row.name for row in node.body if isinstance(row, ast.FunctionDef)]
             if len(methods) != len(set(methods)):
@@ -450,6 +460,11 @@ class TheReaderOfRules(unittest.TestCase):
                 ("L7", "def f(a):\n    b = (c := a) + 1\n    return b + c\n"),
                 ("L7", "def f(a):\n    while a:\n        return (c := a)\n"),
                 ("L18", "class A:\n    def b(self):\n        self.b = 1\n"),
+                *[("L26", f"class A:\n    def b(self):\n        self.{name} = 1\n") for name in (
+                    "items keys values pop update append clear extend insert remove reverse setdefault sort args encode decode "
+                    "hex fromhex format real numerator bit_count union").split()],
+                *[("L26", f"class A:\n    def {name}(self):\n        return 1\n") for name in (
+                    "decode encode hex sort format title bit_count conjugate union").split()],
                 ("L25", "def f(a):\n    return a.hex()\n"), ("L27", "A = 'a%'\n")):
             self.assertIn(rule, [found for found, line in broken(text)], text)
 
@@ -481,6 +496,9 @@ class TheReaderOfRules(unittest.TestCase):
     def test_it_lets_what_breaks_none(self):
         text = '"""Some type."""\n\nfrom math import gcd\n\nONE = (1, 1)\n\n\ndef cut(a, b=2):\n    return a // gcd(a, b)\n'
         self.assertEqual(broken(text), [])
+        for name in "copy add get index mark".split():
+            self.assertEqual(broken(f"class A:\n    def b(self):\n        self.{name} = 1\n"), [])
+            self.assertEqual(broken(f"class A:\n    def {name}(self):\n        return 1\n"), [])
         for row in ("return list(f(a))", "for b in f(a):\n        a(b)", "return [b for b in f(a)]", "yield from f(a)",
                     "for b, c in enumerate(f(a)):\n        a(b, c)"):
             self.assertEqual(broken("def f(a):\n    yield a\n    return\n\n\ndef g(a):\n    " + row + "\n"), [], row)

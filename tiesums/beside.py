@@ -13,8 +13,16 @@ def _need_same_ties(one, other):
         raise OtherTies(other)
 
 
+def _has_all_ways(one, other):
+    """Whether each way of other is one of one."""
+    # The ties are the same: it is if both its ends watch.
+    return all([place in one.watchers for place in other.watchers])
+
+
 def _parts(one, other):
     """A difference that all ways of one hide, but some way of other shows. None if there is none."""
+    if _has_all_ways(one, other):
+        return None
     for difference in sight_of(one).hidden:
         if not sight_of(other).hides(difference):
             return difference
@@ -23,10 +31,10 @@ def _parts(one, other):
 
 def _rows(one, other):
     """For each way of other signed ways of one that make what it makes."""
-    maker = Maker(sight_of(one), len(one))
-    found = []
+    if _has_all_ways(one, other):
+        return tuple([((way, ONE),) for way in walked(other)])
+    maker, found = Maker(sight_of(one), len(one)), []
     for way, row in walked(other).items():
-        # The ties are the same: if both ends watch, the way is one of both nets.
         if way[0] in one.watchers and way[-1] in one.watchers:
             found.append(((way, ONE),))
         else:

@@ -37,7 +37,7 @@ def _read_watchers(line, places):
     return lot
 
 
-def _are_tied(at, names):
+def _may_be_tied(at, names):
     """Whether two names may be written as a tie of places that stand at these numbers."""
     return len(names) == 2 and names[0] in at and names[1] in at and at[names[0]] < at[names[1]]
 
@@ -48,7 +48,7 @@ def _read_ties(lines, places):
     numbers = {}
     for number, line in enumerate(lines):
         word, *names = line.split(" ")
-        if word != "tie" or number == MOST_TIES or not _are_tied(at, names) or (names[0], names[1]) in numbers:
+        if word != "tie" or number == MOST_TIES or not _may_be_tied(at, names) or (names[0], names[1]) in numbers:
             raise BadNet(number + FIRST_TIE_LINE)
         numbers[(names[0], names[1])] = number
         numbers[(names[1], names[0])] = number
@@ -80,6 +80,7 @@ class Net:
         # What ways.py and blind.py find out about the net when it is asked for the first time.
         self.walked = None
         self.sight = None
+        self.surely = None
         self.plan = None
 
     def __eq__(self, other):

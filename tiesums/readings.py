@@ -13,46 +13,49 @@ MOST_READINGS = 10
 
 
 class Ahead:
-    """Which ways to go next, if some differences are hidden still."""
+    """Which ways of a net to go next, if some differences are hidden still.
+
+    firsts: the first way for each mark of the ways that were looked at.
+    """
 
     def __init__(self, net, hidden):
         self.hidden = hidden
         # No way shows more of a difference than this, nor less than minus this.
         self.most = max([sum([abs(part) for part in one]) for one in hidden])
-        self.keys = [self._key([one[tie] for one in hidden]) for tie in range(len(net))]
+        self.marks = [self._mark([one[tie] for one in hidden]) for tie in range(len(net))]
         self.steps = list(walked(net).items())
         self.looked = 0
         self.firsts = {}
 
-    def _key(self, shown):
-        """One integer for what is shown of all differences. Sums of such things have the sums of their keys."""
-        key = 0
+    def _mark(self, shown):
+        """One integer for what is shown of all differences. What is shown together has the sum of the marks."""
+        mark = 0
         for one in shown:
-            key = key * (2 * self.most + 1) + one
-        return key
+            mark = mark * (2 * self.most + 1) + one
+        return mark
 
     def _wanted(self, weights):
-        """The keys of all that makes the weights sure: what they show themselves, some times."""
+        """The marks of all that makes the weights sure: what they show themselves, some times."""
         _, tops = in_integers(weights)
         shown = [worth_of(tops, one) for one in self.hidden]
         divisor = 0
         for one in shown:
             divisor = gcd(divisor, one)
         once = [one // divisor for one in shown]
-        times, key = self.most // max([abs(one) for one in once]), self._key(once)
-        return {many * key: True for many in range(-times, times + 1) if many != 0}
+        times, mark = self.most // max([abs(one) for one in once]), self._mark(once)
+        return {many * mark: True for many in range(-times, times + 1) if many != 0}
 
     def way_for(self, weights):
         """The first way that makes the weights, of which something is hidden, sure. None if there is none."""
         wanted = self._wanted(weights)
-        found = [self.firsts[key] for key in wanted if key in self.firsts]
+        found = [self.firsts[mark] for mark in wanted if mark in self.firsts]
         if len(found) > 0:
             return min(found)
         for way, row in self.steps[self.looked:]:
             self.looked += 1
-            key = sum_along(row, self.keys)
-            self.firsts.setdefault(key, way)
-            if key in wanted:
+            mark = sum_along(row, self.marks)
+            self.firsts.setdefault(mark, way)
+            if mark in wanted:
                 return way
         return None
 
@@ -108,7 +111,7 @@ class Report:
 
     def _against(self, row):
         """Numbers that show that a reading along this row cannot be right if those are by which the row is made."""
-        return (*self.numbers_of(counted(row, len(self.tops))), MINUS_ONE)
+        return self.numbers_of(counted(row, len(self.tops))) + (MINUS_ONE,)
 
     def numbers_of(self, weights):
         """The numbers of the readings that make the weights."""

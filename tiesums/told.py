@@ -3,7 +3,7 @@
 from tiesums.errors import BadWeights, NoTie
 from tiesums.fractions import is_fraction, is_integer
 from tiesums.rows import ZERO, Sight, apart, counted, difference_of, in_integers, made, sum_along, worth_of
-from tiesums.ways import are_ascending_ways, are_costs, is_way, row_of, sight_of
+from tiesums.ways import are_ascending_ways, are_costs, is_way, row_of, sight_of, surely_hidden
 
 # Numbers with more different lows than these would make too great integers of all together.
 MOST_LOWS = 6
@@ -125,6 +125,9 @@ def shows_tie_told(net, tie, value):
 
 def sure_ties(net):
     """The ascending tuple of the numbers of all told ties."""
+    if surely_hidden(net) == 0:
+        # All ties are told exactly if no part is blind.
+        return tuple(range(len(net)))
     hidden = sight_of(net).hidden
     return tuple([number for number in range(len(net)) if not any([one[number] for one in hidden])])
 

@@ -80,14 +80,16 @@ def _bent(net):
 
 
 def surely_hidden(net):
-    """How many differences at least all ways hide, none of them made of the others."""
-    found = []
-    for mask in _bent(net):
-        for one in found:
-            mask = min(mask, mask ^ one)
-        if mask != 0:
-            found.append(mask)
-    return len(found)
+    """How many differences at least all ways hide, none of them made of the others: 0 exactly if no part is blind."""
+    if net.surely is None:
+        found = []
+        for mask in _bent(net):
+            for one in found:
+                mask = min(mask, mask ^ one)
+            if mask != 0:
+                found.append(mask)
+        net.surely = len(found)
+    return net.surely
 
 
 def _looked(net):

@@ -135,18 +135,20 @@ class Sight:
 
     def making(self, weights):
         """The tuple of (name, number) for each row that is needed to make the weights, in the sequence of the rows."""
-        low, left = in_integers(weights)
+        low, tops = in_integers(weights)
+        left = {tie: top for tie, top in enumerate(tops) if top != 0}
         found = []
         # All rows ahead of a taken one hide its difference, so it alone brings what the weights still have of it.
         for name, row, difference in reversed(self.taken):
-            wanted = worth_of(left, difference)
+            wanted = sum([top * difference[tie] for tie, top in left.items()])
             if wanted != 0:
                 much = sum_along(row, difference)
                 times = abs(much) // gcd(wanted, much)
-                low, left = low * times, [one * times for one in left]
+                if times > 1:
+                    low, left = low * times, {tie: top * times for tie, top in left.items()}
                 number = wanted * times // much
                 for tie in row:
-                    left[tie] -= number
+                    left[tie] = left.get(tie, 0) - number
                 found.append((name, cut(number, low)))
         return tuple(found[::-1])
 
